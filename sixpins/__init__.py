@@ -1,0 +1,1 @@
+"""Six pins, one surface of third degree, and all straight lines on it."""

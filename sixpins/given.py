@@ -1,0 +1,60 @@
+"""Arguments as they are given: checked, and told as the package keeps them.
+
+Each function raises the error that is told for its argument, with the
+parameter's name as its part.
+"""
+
+from sixpins.checks import is_integer_rows, is_integers, is_list, is_row, is_rows, is_within
+from sixpins.echelon import basis_of
+from sixpins.errors import BadForm, BadNumber, BadRow, BadTable
+from sixpins.integers import plain
+
+
+def given_integer(value, least, most, part):
+    """An integer from least to most."""
+    if not is_within(value, least, most):
+        raise BadNumber(part)
+    return value
+
+
+def given_row(value, many, part):
+    """The plain row of a row of just so many integers."""
+    if not is_row(value, many):
+        raise BadRow(part)
+    return plain(value)
+
+
+def given_rows(value, least, most, many, part):
+    """The plain rows of a list of least to most rows of just so many integers."""
+    if not is_rows(value, least, most, many):
+        raise BadRow(part)
+    return tuple([plain(row) for row in value])
+
+
+def given_integer_rows(value, least, most, many, part):
+    """A list of least to most rows of just so many integers, any of them all 0."""
+    if not is_integer_rows(value, least, most, many):
+        raise BadRow(part)
+    return tuple([tuple(row) for row in value])
+
+
+def given_line(value, part):
+    """The line of space that has two unlike places, which tell it."""
+    told = given_rows(value, 2, 2, 4, part)
+    if told[0] == told[1]:
+        raise BadRow(part)
+    return basis_of(told, 4)
+
+
+def given_table(value, part):
+    """A table of two, three or four rows."""
+    if not is_list(value, 2, 4) or not is_integer_rows(value, 2, 4, len(value)):
+        raise BadTable(part)
+    return tuple([tuple(row) for row in value])
+
+
+def given_form(value, many, part):
+    """A form of just so many integers, which may be all 0."""
+    if not is_integers(value, many):
+        raise BadForm(part)
+    return tuple(value)
