@@ -24,6 +24,13 @@ def given_row(value, many, part):
     return plain(value)
 
 
+def given_integers(value, many, part):
+    """A row of just so many integers, which may be all 0."""
+    if not is_integers(value, many):
+        raise BadRow(part)
+    return tuple(value)
+
+
 def given_rows(value, least, most, many, part):
     """The plain rows of a list of least to most rows of just so many integers."""
     if not is_rows(value, least, most, many):

@@ -36,3 +36,18 @@ def dot(one, other):
 def mixed(scales, rows):
     """The sum of the rows, each times its integer of scales."""
     return tuple([dot(scales, column) for column in zip(*rows)])
+
+
+def crossing(one, other):
+    """The row of three that is orthogonal to two rows of three, just as it comes."""
+    return (one[1] * other[2] - one[2] * other[1],
+            one[2] * other[0] - one[0] * other[2],
+            one[0] * other[1] - one[1] * other[0])
+
+
+def ascending_choices(least, end, many):
+    """All ascending tuples of so many integers from least to end - 1, ascending."""
+    if many == 0:
+        return [()]
+    return [(number,) + rest for number in range(least, end)
+            for rest in ascending_choices(number + 1, end, many - 1)]

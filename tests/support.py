@@ -3,6 +3,7 @@
 import unittest
 from collections import namedtuple
 from fractions import Fraction
+from itertools import permutations, product
 from math import gcd
 
 Pair = namedtuple("Pair", "one other")
@@ -151,3 +152,54 @@ def is_reduced(rows, wide):
     ascending = leads == sorted(set(leads))
     return ascending and all(row[lead] == 0 for at, row in enumerate(rows)
                              for other, lead in enumerate(leads) if at != other)
+
+
+def determinant_by_hand(table):
+    """The determinant, as the sum over all orders of the columns."""
+    total = 0
+    for order in permutations(range(len(table))):
+        swaps = sum(order[a] > order[b] for a in range(len(order)) for b in range(a + 1, len(order)))
+        term = -1 if swaps % 2 else 1
+        for at, place in enumerate(order):
+            term *= table[at][place]
+        total += term
+    return total
+
+
+def rank_by_hand(rows, wide):
+    """The rank of the rows, worked out over fractions."""
+    return len(reduced_by_hand(rows, wide))
+
+
+def monomials_by_hand(letters, degree):
+    """The monomials in their order, sought among all rows of powers."""
+    told = [powers for powers in product(range(degree + 1), repeat=letters) if sum(powers) == degree]
+    return sorted(told, reverse=True)
+
+
+def value_by_hand(form, letters, degree, row):
+    """The value of a form at a row, term by term."""
+    total = 0
+    for number, powers in zip(form, monomials_by_hand(letters, degree)):
+        for letter, power in zip(row, powers):
+            number *= letter ** power
+        total += number
+    return total
+
+
+def scaled(row, number):
+    """The row, each integer times the number."""
+    return [number * part for part in row]
+
+
+def sum_of(scales, rows):
+    """The sum of the rows, each times its integer."""
+    return tuple(dotted(scales, column) for column in zip(*rows))
+
+
+def wrong_rows(many, zeros=True):
+    """Values of all kinds that are no row of so many integers; with zeros, also what is all 0."""
+    right = [1, 2, 3, 4, 5][:many]
+    told = [*ODD, 0, 7, [], (), right + [1], right[1:], [right], [right, right]]
+    told += [right[1:] + [value] for value in ODD + ([], (1,))]
+    return told + [[0] * many, (0,) * many] if zeros else told

@@ -4,7 +4,7 @@ import unittest
 from importlib import import_module
 from inspect import Parameter, isclass, isfunction, signature
 
-from tests.interface import CLASSES, FUNCTIONS, MODULES
+from tests.interface import CLASSES, FUNCTIONS, METHODS, MODULES
 
 
 def told_parameters(call):
@@ -40,6 +40,14 @@ class InterfaceTest(unittest.TestCase):
                     self.assertEqual(told_parameters(made), parameters)
                     for method in methods:
                         self.assertIn(method, vars(made))
+
+    def test_methods(self):
+        for (module, name), methods in METHODS.items():
+            made = getattr(import_module(f"sixpins.{module}"), name)
+            for method, parameters in methods.items():
+                with self.subTest(module=module, name=name, method=method):
+                    told = told_parameters(getattr(made, method))
+                    self.assertEqual(told.removeprefix("self").strip(), parameters)
 
     def test_modules(self):
         self.assertEqual(set(FUNCTIONS) | set(CLASSES), set(MODULES))

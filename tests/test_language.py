@@ -24,7 +24,7 @@ NODES = set(f"{STATEMENTS} {EXPRESSIONS} {SIGNS}".split())
 LIBRARY = {"math": "gcd lcm isqrt comb perm factorial".split()}
 
 BUILTINS = set("len range enumerate zip min max sum abs sorted reversed int str bool list tuple dict isinstance ord "
-               "repr any all divmod type staticmethod classmethod Exception ValueError TypeError".split())
+               "repr any all divmod iter type staticmethod classmethod Exception ValueError TypeError".split())
 
 METHODS = set("append clear copy count endswith extend find get index insert isalnum isalpha isdigit islower isspace "
               "isupper items join keys ljust lower lstrip partition pop remove replace reverse rfind rjust rpartition "

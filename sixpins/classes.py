@@ -1,0 +1,13 @@
+"""Curve classes: how often they meet, and which of them are bars."""
+
+BENT = (2, 1, 1, 1, 1, 1, 1)
+
+
+def times_crossed(one, other):
+    """How often two curve classes meet."""
+    return one[0] * other[0] - sum([mine * its for mine, its in zip(one[1:], other[1:])])
+
+
+def line_class(pins):
+    """The curve class of a line through the pins of these numbers."""
+    return (1,) + tuple([1 if pin in pins else 0 for pin in range(6)])

@@ -1,0 +1,91 @@
+"""Monomials and forms, without any checks."""
+
+from sixpins.integers import dot, mixed
+
+
+def monomials_of(letters, degree):
+    """The list of the monomials of so many letters and this degree, in their order."""
+    if letters == 1:
+        return [(degree,)]
+    return [(power,) + rest for power in range(degree, -1, -1)
+            for rest in monomials_of(letters - 1, degree - power)]
+
+
+def places_of(letters, degree):
+    """The place of each monomial in their order."""
+    return {monomial: place for place, monomial in enumerate(monomials_of(letters, degree))}
+
+
+def monomial_values(row, degree):
+    """The values of all monomials of a degree at a row, in their order."""
+    # blocks[k] has the values of those in which the letters ahead of k do not
+    # stand: of the next degree, these are letter k times each of them, and then
+    # those in which letter k does not stand either.
+    blocks = [[1] for _ in row]
+    for _ in range(degree):
+        later = []
+        for letter in range(len(row) - 1, -1, -1):
+            later = [row[letter] * value for value in blocks[letter]] + later
+            blocks[letter] = later
+    return blocks[0]
+
+
+def value_at(form, degree, row):
+    """The value of a form of this degree at a row."""
+    return dot(form, monomial_values(row, degree))
+
+
+def product_form(one, other, letters, degree, further):
+    """The product of a form of the degree `degree` and one of the degree `further`."""
+    places = places_of(letters, degree + further)
+    others = list(zip(monomials_of(letters, further), other))
+    told = [0] * len(places)
+    for first, mine in zip(monomials_of(letters, degree), one):
+        for second, its in others:
+            place = places[tuple([power + more for power, more in zip(first, second)])]
+            told[place] = told[place] + mine * its
+    return tuple(told)
+
+
+def raised_places(letters, degree):
+    """For each monomial of a degree the places of its products with the letters, one by one."""
+    places = places_of(letters, degree + 1)
+    return [[places[monomial[:letter] + (monomial[letter] + 1,) + monomial[letter + 1:]]
+             for letter in range(letters)] for monomial in monomials_of(letters, degree)]
+
+
+def slope_form(form, letters, degree, letter):
+    """The slope of a form by a letter."""
+    places = raised_places(letters, degree - 1)
+    lower = monomials_of(letters, degree - 1)
+    return tuple([(monomial[letter] + 1) * form[raised[letter]] for monomial, raised in zip(lower, places)])
+
+
+def times_first(form, first, places, many):
+    """The product of a form and one of first degree, which has so many integers."""
+    told = [0] * many
+    for number, raised in zip(form, places):
+        if number != 0:
+            for scale, place in zip(first, raised):
+                told[place] = told[place] + number * scale
+    return told
+
+
+def monomial_images(letters, degree, rows):
+    """What all monomials of a degree are on the rows, in their order."""
+    # As in monomial_values, but each letter is a form of first degree here.
+    firsts = [[row[letter] for row in rows] for letter in range(letters)]
+    blocks = [[[1]] for _ in firsts]
+    for lower in range(degree):
+        places = raised_places(len(rows), lower)
+        many = len(monomials_of(len(rows), lower + 1))
+        later = []
+        for letter in range(letters - 1, -1, -1):
+            later = [times_first(form, firsts[letter], places, many) for form in blocks[letter]] + later
+            blocks[letter] = later
+    return blocks[0]
+
+
+def form_on(form, letters, degree, rows):
+    """The form on the rows."""
+    return mixed(form, monomial_images(letters, degree, rows))

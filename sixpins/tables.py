@@ -1,0 +1,79 @@
+"""Tables: what they lead, their products and determinants, and what undoes them."""
+
+from sixpins.errors import Misfit
+from sixpins.given import given_row, given_table
+from sixpins.integers import dot, plain_or_none
+
+
+def led(table, row):
+    """The plain row of the row to which the table leads this one; None for zeros alone."""
+    told = given_table(table, "table")
+    return plain_or_none(image_of(told, given_row(row, len(told), "row")))
+
+
+def multiplied(one, other):
+    """The table that leads each row to where one leads the row to which other leads it."""
+    first = given_table(one, "one")
+    second = given_table(other, "other")
+    if len(first) != len(second):
+        raise Misfit("other")
+    return product_of(first, second)
+
+
+def determinant(table):
+    """The determinant of a table, an integer."""
+    return determinant_of(given_table(table, "table"))
+
+
+def plain_table(table):
+    """The plain table that is a number times this one; None for zeros alone."""
+    return plain_table_of(given_table(table, "table"))
+
+
+def undone(table):
+    """The plain table that leads back what the table led; None if its determinant is 0."""
+    told = given_table(table, "table")
+    if determinant_of(told) == 0:
+        return None
+    return plain_table_of(adjoint_of(told))
+
+
+def image_of(table, row):
+    """The row to which the table leads the row, just as it comes."""
+    return tuple([dot(mine, row) for mine in table])
+
+
+def product_of(one, other):
+    """The product of two tables of equally many rows."""
+    columns = list(zip(*other))
+    return tuple([image_of(columns, row) for row in one])
+
+
+def plain_table_of(table):
+    """The plain table that is a number times this one; None for zeros alone."""
+    many = len(table)
+    row = plain_or_none([number for mine in table for number in mine])
+    if row is None:
+        return None
+    return tuple([row[at * many:(at + 1) * many] for at in range(many)])
+
+
+def determinant_of(table):
+    """The determinant of a table of one row or more."""
+    if len(table) == 1:
+        return table[0][0]
+    return dot(table[0], [cofactor(table, 0, place) for place in range(len(table))])
+
+
+def cofactor(table, at, place):
+    """By what the determinant grows when the integer in this row, at this place, grows by one."""
+    left = [row[:place] + row[place + 1:] for row in table[:at] + table[at + 1:]]
+    if (at + place) % 2 == 0:
+        return determinant_of(left)
+    return -determinant_of(left)
+
+
+def adjoint_of(table):
+    """The table that, times this one, has the determinant at each corner and 0 elsewhere."""
+    many = len(table)
+    return tuple([tuple([cofactor(table, place, at) for place in range(many)]) for at in range(many)])
