@@ -54,3 +54,8 @@ def is_rows(value, least, most, many):
 def is_integer_rows(value, least, most, many):
     """Whether the value is a list of least to most rows of so many integers; any may be all 0."""
     return is_list(value, least, most) and all([is_integers(row, many) for row in value])
+
+
+def is_table(value):
+    """Whether the value is a table: two, three or four rows, each with as many integers as there are rows."""
+    return is_list(value, 2, 4) and all([is_integers(row, len(value)) for row in value])

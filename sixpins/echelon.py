@@ -1,5 +1,7 @@
 """Elimination over the integers, without any checks."""
 
+from math import gcd, lcm
+
 from sixpins.integers import leading_place, plain
 
 
@@ -11,45 +13,46 @@ def first_with(rows, least, column):
     return None
 
 
-def cleared(rows, top, column, last):
-    """The rows with 0 in the column everywhere but in row top."""
-    # Every integer here is a determinant of some of the first integers,
-    # so the division by the last leading integer comes out even.
-    first = rows[top]
-    scale = first[column]
+def cleared(row, first, column):
+    """The sum of multiples of a row and of first, least in size, that is 0 in the column."""
+    shared = gcd(row[column], first[column])
+    scale = first[column] // shared
+    less = row[column] // shared
+    return [scale * mine - less * its for mine, its in zip(row, first)]
+
+
+def all_cleared(rows, top, column):
+    """The rows, plain, with 0 in the column everywhere but in row top, and no zeros alone."""
     told = []
     for place, row in enumerate(rows):
-        if place == top:
+        if place == top or row[column] == 0:
             told.append(row)
         else:
-            told.append([(scale * mine - row[column] * its) // last for mine, its in zip(row, first)])
+            left = cleared(row, rows[top], column)
+            if leading_place(left) is not None:
+                # Common divisors are taken out at each step: they grow fast,
+                # most of all with rows that come of an earlier elimination.
+                told.append(plain(left))
     return told
 
 
 def stepped(rows, wide):
-    """Rows that span what the rows span, as few as can be, and their leading places.
-
-    The places ascend, each row has 0 at the leading places of the others,
-    and all have the same integer at their own leading place.
-    """
-    left = [list(plain(row)) for row in rows if leading_place(row) is not None]
+    """The reduced basis of the space that the rows span, and its leading places."""
+    left = [plain(row) for row in rows if leading_place(row) is not None]
     leads = []
-    last = 1
     for column in range(wide):
         top = len(leads)
         found = first_with(left, top, column)
         if found is not None:
             left[top], left[found] = left[found], left[top]
-            left = list(cleared(left, top, column, last))
-            last = left[top][column]
+            left = list(all_cleared(left, top, column))
             leads.append(column)
-    return left[:len(leads)], leads
+    return tuple(left), leads
 
 
 def basis_of(rows, wide):
     """The reduced basis of the space that the rows span."""
-    steps, _ = stepped(rows, wide)
-    return tuple([plain(row) for row in steps])
+    return stepped(rows, wide)[0]
 
 
 def kernel_of(rows, wide):
@@ -66,10 +69,13 @@ def kernel_of(rows, wide):
 
 def kernel_row(steps, leads, free, wide):
     """The row of the kernel, told from the right, that is 0 at all free places but this one."""
-    row = [0] * wide
-    row[free] = steps[0][leads[0]] if leads else 1
+    common = 1
     for step, lead in zip(steps, leads):
-        row[lead] = -step[free]
+        common = lcm(common, step[lead] // gcd(step[lead], step[free]))
+    row = [0] * wide
+    row[free] = common
+    for step, lead in zip(steps, leads):
+        row[lead] = -step[free] * common // step[lead]
     return plain(row[::-1])
 
 

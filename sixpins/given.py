@@ -4,7 +4,7 @@ Each function raises the error that is told for its argument, with the
 parameter's name as its part.
 """
 
-from sixpins.checks import is_integer_rows, is_integers, is_list, is_row, is_rows, is_within
+from sixpins.checks import is_integer_rows, is_integers, is_row, is_rows, is_table, is_within
 from sixpins.echelon import basis_of
 from sixpins.errors import BadForm, BadNumber, BadRow, BadTable
 from sixpins.integers import plain
@@ -55,7 +55,7 @@ def given_line(value, part):
 
 def given_table(value, part):
     """A table of two, three or four rows."""
-    if not is_list(value, 2, 4) or not is_integer_rows(value, 2, 4, len(value)):
+    if not is_table(value):
         raise BadTable(part)
     return tuple([tuple(row) for row in value])
 

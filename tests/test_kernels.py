@@ -170,6 +170,22 @@ class BigTest(Case):
             self.assertTrue(all(dotted(row, right) == 0 for row in low for right in other))
             self.assertTrue(all(dotted(row, right) == 0 for row in full[:29] for right in kernel(full[:29], 30)))
 
+    def test_what_is_returned_may_be_passed_on(self):
+        source = Source(5)
+        for many in (10, 20, 29):
+            rows = [source.row(30, 10 ** 30) for _ in range(many)]
+            started = time.monotonic()
+            told, other = reduced(rows, 30), kernel(rows, 30)
+            self.same(reduced(told, 30), told)
+            self.same(kernel(told, 30), other)
+            self.same(reduced(other, 30), other)
+            self.same(kernel(other, 30), told)
+            sums = mixed_rows(source, told, 40, 10 ** 6)
+            self.same(reduced(sums, 30), told)
+            self.same(kernel(sums, 30), other)
+            self.assertEqual(rank([*told[:20], *other], 30), len(told[:20]) + len(other))
+            self.assertLess(time.monotonic() - started, 20)
+
 
 if __name__ == "__main__":
     unittest.main()

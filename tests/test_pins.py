@@ -3,9 +3,11 @@
 import unittest
 from itertools import combinations, permutations
 
+from sixpins.classes import times_crossed
 from sixpins.errors import BadNumber, BadRow, BadText, NoPins
 from sixpins.papers import Denial, Paper
 from sixpins.pins import Apart, InLine, Pins, Same, judged_pins
+from sixpins.plane import in_line
 from tests.support import (Case, ODD, ODD_INTEGERS, Pair, Source, Thing, determinant_by_hand, dotted, listed,
                            plain_by_hand, reduced_by_hand, scaled, value_by_hand, wrong_rows)
 
@@ -96,6 +98,26 @@ class CasesTest(Case):
             for order in permutations(range(6)):
                 bars = Pins([spots[pin] for pin in order]).bars
                 self.assertEqual(list(bars), sorted(bars))
+
+    def test_facts_of_bars(self):
+        for name, spots, _, kind in CASES:
+            pins = Pins(spots)
+            for one in pins.bars:
+                with self.subTest(name, bar=one):
+                    self.assertEqual(times_crossed(one, one), -2)
+                    self.assertEqual(times_crossed(one, (3, 1, 1, 1, 1, 1, 1)), 0)
+            crossings = [times_crossed(one, other) for one, other in combinations(pins.bars, 2)]
+            self.assertEqual(set(crossings), {1} if kind == (2,) else {0} if len(pins.bars) > 1 else set())
+            self.assertTrue([four for four in combinations(range(6), 4)
+                             if all(determinant_by_hand([spots[pin] for pin in three])
+                                    for three in combinations(four, 3))])
+
+    def test_spots_on_bars(self):
+        for spots, bars in ((CASES[1][1], [(0, 1, 2)]), (FOUR, [(0, 1, 5), (0, 2, 4), (1, 2, 3), (3, 4, 5)])):
+            told = [tuple(pin for pin in range(6) if bar[pin + 1]) for bar in Pins(spots).bars]
+            self.assertEqual(sorted(told), bars)
+            for three in told:
+                self.assertIs(in_line([spots[pin] for pin in three]), True)
 
     def test_known_curves(self):
         self.same(Pins(CASES[2][1]).curve, (0, 0, 1, -1, 0, 0))
