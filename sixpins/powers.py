@@ -74,7 +74,7 @@ def times_first(form, first, places, many):
 def monomial_images(letters, degree, rows):
     """What all monomials of a degree are on the rows, in their order."""
     # As in monomial_values, but each letter is a form of first degree here.
-    firsts = [[row[letter] for row in rows] for letter in range(letters)]
+    firsts = [[row[at] for row in rows] for at in range(letters)]
     blocks = [[[1]] for _ in firsts]
     for lower in range(degree):
         places = raised_places(len(rows), lower)
