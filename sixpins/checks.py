@@ -18,8 +18,8 @@ def is_within(value, least, most):
 
 
 def is_list(value, least, most):
-    """Whether the value is a list or tuple of least to most values."""
-    return isinstance(value, (list, tuple)) and least <= len(value) <= most
+    """Whether the value is a list or tuple of least to most values; None is no bound."""
+    return isinstance(value, (list, tuple)) and is_within(len(value), least, most)
 
 
 def is_integers(value, many):

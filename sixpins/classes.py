@@ -8,6 +8,11 @@ def times_crossed(one, other):
     return one[0] * other[0] - sum([mine * its for mine, its in zip(one[1:], other[1:])])
 
 
+def pins_with(row):
+    """The ascending list of the numbers of the pins at which a curve class has 1."""
+    return [pin for pin in range(6) if row[pin + 1] == 1]
+
+
 def line_class(pins):
     """The curve class of a line through the pins of these numbers."""
     return (1,) + tuple([1 if pin in pins else 0 for pin in range(6)])

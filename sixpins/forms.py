@@ -1,26 +1,19 @@
 """Forms: monomials, values, products, slopes, and forms on rows, lines and planes."""
 
-from math import comb
-
 from sixpins.echelon import kernel_of
 from sixpins.given import given_form, given_integer, given_integer_rows, given_integers, given_line, given_row
-from sixpins.powers import form_on, monomials_of, product_form, slope_form, value_at
+from sixpins.powers import (CUBIC_MONOMIALS, form_on, many_monomials, monomials_of, product_form, slope_form,
+                            value_at)
 
 LEAST_LETTERS = 2
 MOST_LETTERS = 4
 MOST_DEGREE = 12
 HALF_DEGREE = 6
-CUBIC_MONOMIALS = 20
 
 
 def given_letters(letters):
     """A number of letters."""
     return given_integer(letters, LEAST_LETTERS, MOST_LETTERS, "letters")
-
-
-def many_monomials(letters, degree):
-    """How many monomials of a degree there are."""
-    return comb(letters + degree - 1, degree)
 
 
 def monomials(letters, degree):
@@ -73,7 +66,13 @@ def on_line_of(form, line):
 
 def lies(form, line):
     """Whether a form of third degree in space lies on a line."""
-    return on_line_of(form, line) == (0, 0, 0, 0)
+    told = given_form(form, CUBIC_MONOMIALS, "form")
+    return is_along(told, given_line(line, "line"))
+
+
+def is_along(form, line):
+    """Whether a form of third degree in space lies on a reduced line, without any checks."""
+    return form_on(form, 4, 3, line) == (0, 0, 0, 0)
 
 
 def on_plane_of(form, plane):

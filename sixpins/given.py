@@ -4,10 +4,12 @@ Each function raises the error that is told for its argument, with the
 parameter's name as its part.
 """
 
-from sixpins.checks import is_integer_rows, is_integers, is_row, is_rows, is_table, is_within
+from sixpins.checks import is_integer_rows, is_integers, is_list, is_row, is_rows, is_table, is_within
 from sixpins.echelon import basis_of
-from sixpins.errors import BadForm, BadNumber, BadRow, BadTable
+from sixpins.errors import BadForm, BadName, BadNumber, BadRow, BadTable
 from sixpins.integers import plain
+from sixpins.powers import CUBIC_MONOMIALS
+from sixpins.roster import is_name, number_of
 
 
 def given_integer(value, least, most, part):
@@ -15,6 +17,11 @@ def given_integer(value, least, most, part):
     if not is_within(value, least, most):
         raise BadNumber(part)
     return value
+
+
+def given_pin(value, part):
+    """The number of a pin."""
+    return given_integer(value, 0, 5, part)
 
 
 def given_row(value, many, part):
@@ -53,6 +60,13 @@ def given_line(value, part):
     return basis_of(told, 4)
 
 
+def given_lines(value, part):
+    """The lines of space of a list, which may be empty."""
+    if not is_list(value, 0, None):
+        raise BadRow(part)
+    return tuple([given_line(line, part) for line in value])
+
+
 def given_table(value, part):
     """A table of two, three or four rows."""
     if not is_table(value):
@@ -65,3 +79,17 @@ def given_form(value, many, part):
     if not is_integers(value, many):
         raise BadForm(part)
     return tuple(value)
+
+
+def given_cubic(value, part):
+    """A form of third degree in space that is not all 0."""
+    if not is_row(value, CUBIC_MONOMIALS):
+        raise BadForm(part)
+    return tuple(value)
+
+
+def given_name(value, part):
+    """The number of a name."""
+    if not is_name(value):
+        raise BadName(part)
+    return number_of(value)

@@ -2,7 +2,7 @@
 
 from sixpins.checks import is_row, is_within
 from sixpins.classes import BENT, line_class, times_crossed
-from sixpins.errors import BadNumber, BadText, NoPins
+from sixpins.errors import BadNumber, BadPins, BadText, NoPins
 from sixpins.given import given_rows
 from sixpins.integers import ascending_choices, crossing, dot, plain
 from sixpins.papers import Denial, Paper
@@ -120,3 +120,10 @@ class Pins:
         if len(words) != MANY:
             raise BadText("text")
         return cls([read_row(word, 3) for word in words])
+
+
+def given_pins(value, part):
+    """Pins that are passed."""
+    if not isinstance(value, Pins):
+        raise BadPins(part)
+    return value

@@ -1,6 +1,11 @@
 """Monomials and forms, without any checks."""
 
+from math import comb
+
 from sixpins.integers import dot, mixed
+
+# How many monomials of third degree there are in space.
+CUBIC_MONOMIALS = 20
 
 
 def monomials_of(letters, degree):
@@ -47,11 +52,32 @@ def product_form(one, other, letters, degree, further):
     return tuple(told)
 
 
+def product_of_firsts(firsts):
+    """The product of some forms of first degree, all in the same letters."""
+    letters = len(firsts[0])
+    told = (1,)
+    for degree, first in enumerate(firsts):
+        told = product_form(told, first, letters, degree, 1)
+    return told
+
+
+def many_monomials(letters, degree):
+    """How many monomials of so many letters and this degree there are."""
+    return comb(letters + degree - 1, degree)
+
+
 def raised_places(letters, degree):
     """For each monomial of a degree the places of its products with the letters, one by one."""
-    places = places_of(letters, degree + 1)
-    return [[places[monomial[:letter] + (monomial[letter] + 1,) + monomial[letter + 1:]]
-             for letter in range(letters)] for monomial in monomials_of(letters, degree)]
+    if letters == 1:
+        return [[0]]
+    told = []
+    for rest in range(degree + 1):
+        # Monomials in which letter 0 has the power degree - rest: times another
+        # letter, they stand behind those in which it has a higher one.
+        ahead = many_monomials(letters, rest)
+        for raised in raised_places(letters - 1, rest):
+            told.append([len(told)] + [ahead + place for place in raised])
+    return told
 
 
 def slope_form(form, letters, degree, letter):
@@ -59,6 +85,28 @@ def slope_form(form, letters, degree, letter):
     places = raised_places(letters, degree - 1)
     lower = monomials_of(letters, degree - 1)
     return tuple([(monomial[letter] + 1) * form[raised[letter]] for monomial, raised in zip(lower, places)])
+
+
+def all_slopes(form, letters, degree):
+    """The slopes of a form by all its letters, in their order."""
+    return [slope_form(form, letters, degree, letter) for letter in range(letters)]
+
+
+def monomial_slopes(row, degree):
+    """For each letter the slopes by it of all monomials of a degree at a row, in their order."""
+    letters = len(row)
+    told = [[0] * many_monomials(letters, degree) for _ in row]
+    lower = monomials_of(letters, degree - 1)
+    places = raised_places(letters, degree - 1)
+    for monomial, raised, value in zip(lower, places, monomial_values(row, degree - 1)):
+        for letter, place in enumerate(raised):
+            told[letter][place] = (monomial[letter] + 1) * value
+    return told
+
+
+def slopes_at(form, degree, row):
+    """The values of the slopes of a form of this degree by all its letters at a row."""
+    return tuple([dot(form, slopes) for slopes in monomial_slopes(row, degree)])
 
 
 def times_first(form, first, places, many):

@@ -1,7 +1,7 @@
 """Space: places, planes, and the lines between them."""
 
 from sixpins.checks import is_list, is_plain
-from sixpins.echelon import basis_of, kernel_of, rank_of
+from sixpins.echelon import basis_of, kernel_of
 from sixpins.errors import Misfit
 from sixpins.given import given_line, given_row
 from sixpins.integers import dot, leading_place, mixed, plain_or_none
@@ -42,7 +42,15 @@ def on_line(line, place):
 
 def is_on(line, place):
     """Whether a reduced line has a place, told by its plain row."""
-    return rank_of(line + (place,), 4) == 2
+    return plain_or_none(mixed(shares_on(line, place), line)) == place
+
+
+def shares_on(line, place):
+    """How often each row of a reduced line is taken, up to one number for both, if the place is on the line."""
+    one, other = line
+    first, second = leading_place(one), leading_place(other)
+    # At the leading place of each row the other one has 0.
+    return place[first] * other[second], place[second] * one[first]
 
 
 def on_plane(plane, place):
@@ -64,8 +72,13 @@ def within_plane(line, plane):
 def meet(one, other):
     """The place that two unlike lines have in common; None if they are skew."""
     first, second = unlike_lines(one, other)
+    return common_place(first, second)
+
+
+def common_place(one, other):
+    """The place that two unlike lines, reduced, have in common; None if they are skew."""
     # The planes of both lines together: a place on both lines is on all of them.
-    common = kernel_of(kernel_of(first, 4) + kernel_of(second, 4), 4)
+    common = kernel_of(kernel_of(one, 4) + kernel_of(other, 4), 4)
     return common[0] if common else None
 
 
@@ -76,6 +89,11 @@ def plane_of(one, other):
     if not planes:
         raise Misfit("other")
     return planes[0]
+
+
+def plane_of_lines(lines):
+    """The plane of some lines that lie in one plane, reduced and not all alike."""
+    return kernel_of([place for line in lines for place in line], 4)[0]
 
 
 def unlike_lines(one, other):

@@ -21,6 +21,24 @@ FUNCTIONS = {
               "on_plane_of": "form plane"},
     "pins": {"judged_pins": "spots"},
     "curves": {"curves": "pins"},
+    "names": {"all_names": "", "class_of": "name", "name_of": "row", "times_met": "one other", "all_trios": "",
+              "trios_of": "name", "pairs_of": "name", "is_six": "value", "all_sixes": "", "partner_of": "six",
+              "all_arrays": "", "array_of": "rows"},
+    "falls": {"is_standing": "pins name", "standing_names": "pins", "falls_on": "pins name", "weights_of": "pins"},
+    "lines": {"line_of": "surface name", "told_lines": "surface", "name_of_line": "surface line",
+              "names_on": "surface place", "meeting_place": "surface one other"},
+    "fans": {"fifth_form": "form line", "fan_of": "surface name"},
+    "noother": {"no_other_line": "surface"},
+    "check_lines": {"shows_fan": "form value", "shows_all": "form lines value"},
+    "planes": {"plane_of_trio": "surface trio", "joint_of_trio": "surface trio", "told_planes": "surface",
+               "trios_in": "surface plane"},
+    "ways": {"way_of": "surface array"},
+    "check_ways": {"shows_way": "form value"},
+    "peaks": {"told_peaks": "surface", "touching_plane": "surface place", "common_along": "form line",
+              "no_other_peak": "surface"},
+    "check_peaks": {"shows_peaks": "form places value"},
+    "renamings": {"pins_swapped": "pin other", "pins_turned": "one other third", "six_exchanged": "six",
+                  "judged_map": "pictures"},
 }
 
 ERRORS = {name: "part" for name in (
@@ -37,10 +55,29 @@ CLASSES = {
              "InLine": ("four", ("__init__",)),
              "Pins": ("spots", ("__init__", "through", "__len__", "__iter__", "__contains__", "__eq__", "__str__",
                                 "read"))},
+    "surface": {"Spot": ("spot", ("__init__",)), "AtPin": ("pin line", ("__init__",)), "Bar": ("line", ("__init__",)),
+                "Curve": ("curve", ("__init__",)), "Off": ("", ("__init__",)),
+                "Surface": ("pins", ("__init__", "place_of", "place_at", "holds", "__contains__", "back", "third",
+                                     "__eq__"))},
+    "fans": {"Fan": ("line fives scale", ("__init__",))},
+    "noother": {"NoOther": ("plane lines fans", ("__init__",))},
+    "ways": {"Way": ("first second scale one other", ("__init__",)), "Alike": ("planes", ("__init__",))},
+    "peaks": {"Peak": ("place bars cone", ("__init__",)), "NoOtherPeak": ("lines alone commons", ("__init__",))},
+    "renamings": {"Kept": ("six", ("__init__",)), "Breaks": ("one other", ("__init__",)),
+                  "Renaming": ("six", ("__init__", "led_name", "led_class", "__mul__", "undone", "still", "times",
+                                       "__eq__", "__str__", "read"))},
 }
 
 # The parameters of methods; what is told to the object itself is left out.
-METHODS = {("pins", "Pins"): {"through": "*numbers", "read": "text"}}
+METHODS = {("pins", "Pins"): {"through": "*numbers", "read": "text"},
+           ("surface", "Surface"): {"place_of": "spot", "place_at": "pin line", "holds": "place", "back": "place",
+                                    "third": "one other"},
+           ("renamings", "Renaming"): {"led_name": "name", "led_class": "row", "undone": "", "still": "",
+                                       "times": "", "read": "text"}}
 
 MODULES = ("errors", "checks", "papers", "exact", "rows", "kernels", "tables", "plane", "space", "forms", "pins",
-           "curves")
+           "curves", "surface", "names", "falls", "lines", "fans", "noother", "check_lines", "planes", "ways",
+           "check_ways", "peaks", "check_peaks", "renamings")
+
+# The document has no examples under these headings; NoOther stands in those of check_lines.
+WITHOUT_EXAMPLES = ("errors", "noother", "check_ways")

@@ -5,7 +5,7 @@ from importlib import import_module
 from pathlib import Path
 
 from sixpins.errors import PinError
-from tests.interface import CLASSES, FUNCTIONS, MODULES
+from tests.interface import CLASSES, FUNCTIONS, MODULES, WITHOUT_EXAMPLES
 from tests.support import Case
 
 FOLDER = Path(__file__).parent / "examples"
@@ -58,8 +58,8 @@ class ExamplesTest(Case):
             self.same(eval(typed, names), eval(told, names))
 
     def test_each_module_with_examples_has_a_file(self):
-        told = {path.stem.split("_")[1] for path in FOLDER.glob("*.txt")}
-        self.assertEqual(told, set(MODULES) - {"errors"})
+        told = [path.stem.partition("_")[2] for path in sorted(FOLDER.glob("*.txt"))]
+        self.assertEqual(told, [module for module in MODULES if module not in WITHOUT_EXAMPLES])
 
 
 if __name__ == "__main__":

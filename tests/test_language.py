@@ -1,6 +1,6 @@
 """The package keeps to its small part of Python.
 
-These tests ask for somewhat less than the language lets (no sets, no
+These tests ask for somewhat less than the language lets (no stored sets, no
 generator expressions, no nested functions), so that a row that passes is
 sure to be let, as far as they look.
 """
@@ -24,7 +24,8 @@ NODES = set(f"{STATEMENTS} {EXPRESSIONS} {SIGNS}".split())
 LIBRARY = {"math": "gcd lcm isqrt comb perm factorial".split()}
 
 BUILTINS = set("len range enumerate zip min max sum abs sorted reversed int str bool list tuple dict isinstance ord "
-               "repr any all divmod iter type staticmethod classmethod Exception ValueError TypeError".split())
+               "repr any all divmod iter type set staticmethod classmethod Exception ValueError TypeError "
+               "NotImplemented".split())
 
 METHODS = set("append clear copy count endswith extend find get index insert isalnum isalpha isdigit islower isspace "
               "isupper items join keys ljust lower lstrip partition pop remove replace reverse rfind rjust rpartition "
@@ -192,6 +193,38 @@ class LanguageTest(unittest.TestCase):
                 if isinstance(node.ops[0], (ast.Is, ast.IsNot)):
                     right = node.comparators[0]
                     self.assertTrue(isinstance(right, ast.Constant) or called(right) == "type")
+
+    def test_sets_stand_in_len_and_sorted_alone(self):
+        names = {where for where, node in each(ast.Name) if node.id == "set"}
+        calls = [(where, inner) for where, node in each(ast.Call) if called(node) in ("len", "sorted")
+                 for inner in node.args if called(inner) == "set" and not node.keywords]
+        self.assertEqual(names, {where for where, _ in calls})
+        for where, inner in calls:
+            with self.subTest(where):
+                self.assertEqual(len(inner.args), 1)
+                self.assertNotEqual(called(inner.args[0]), "set")
+
+    def test_not_implemented_is_returned(self):
+        names = {where for where, node in each(ast.Name) if node.id == "NotImplemented"}
+        returned = {where for where, node in each(ast.Return)
+                    if isinstance(node.value, ast.Name) and node.value.id == "NotImplemented"}
+        self.assertEqual(names, returned)
+
+    def test_inner_comprehensions_have_names_of_their_own(self):
+        for where, outer in each(ast.ListComp, ast.DictComp):
+            its = {node.id for part in outer.generators for node in ast.walk(part.target)
+                   if isinstance(node, ast.Name)}
+            for inner in ast.walk(outer):
+                if isinstance(inner, (ast.ListComp, ast.DictComp)) and inner is not outer:
+                    with self.subTest(where):
+                        told = {node.id for part in inner.generators for node in ast.walk(part.target)
+                                if isinstance(node, ast.Name)}
+                        self.assertFalse(its & told)
+
+    def test_stars_stand_over_names(self):
+        for where, node in each(ast.Starred):
+            with self.subTest(where):
+                self.assertIsInstance(node.value, (ast.Name, ast.Attribute))
 
     def test_iterated_at_once(self):
         for where, node in each(ast.AST):

@@ -1,0 +1,43 @@
+"""A surface as three planes less three planes, told by arrays."""
+
+from sixpins.echelon import kernel_of
+from sixpins.names import given_array
+from sixpins.papers import Denial, Paper
+from sixpins.powers import product_of_firsts
+from sixpins.space import plane_of_lines
+from sixpins.surface import given_surface
+
+
+class Way(Paper):
+    """Scale times the form is one times the product of the first planes, plus other times that of the second ones."""
+
+    def __init__(self, first, second, scale, one, other):
+        Paper.__init__(self, "way", first, second, scale, one, other)
+        self.first = self.parts[0]
+        self.second = self.parts[1]
+        self.scale = self.parts[2]
+        self.one = self.parts[3]
+        self.other = self.parts[4]
+
+
+class Alike(Denial):
+    """The planes of the rows are those of the columns, each as often."""
+
+    def __init__(self, planes):
+        Denial.__init__(self, "alike", planes)
+        self.planes = self.parts[0]
+
+
+def way_of(surface, array):
+    """The Way of an array, or an Alike."""
+    told = given_surface(surface)
+    rows = given_array(array, "array")
+    lines = [[told.lines[number] for number in row] for row in rows]
+    first = [plane_of_lines(row) for row in lines]
+    second = [plane_of_lines(column) for column in zip(*lines)]
+    if sorted(first) == sorted(second):
+        return Alike(sorted(first))
+    parts = (told.form, product_of_firsts(first), product_of_firsts(second))
+    # Just one row, up to a number, adds the three forms up to zeros.
+    scale, less, further = kernel_of(list(zip(*parts)), 3)[0]
+    return Way(first, second, scale, -less, -further)
