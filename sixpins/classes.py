@@ -16,3 +16,8 @@ def pins_with(row):
 def line_class(pins):
     """The curve class of a line through the pins of these numbers."""
     return (1,) + tuple([1 if pin in pins else 0 for pin in range(6)])
+
+
+def threes_on(bars):
+    """The ascending list of the threes of numbers of pins that are in a line, if these are the bars."""
+    return sorted([tuple(pins_with(bar)) for bar in bars if bar[0] == 1])

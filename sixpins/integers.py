@@ -1,6 +1,6 @@
 """Rows of integers: plain rows and sums of products, without any checks."""
 
-from math import gcd
+from math import gcd, lcm
 
 
 def leading_place(row):
@@ -26,6 +26,21 @@ def plain_or_none(row):
     if leading_place(row) is None:
         return None
     return plain(row)
+
+
+def plain_together(rows):
+    """The rows, divided by one number, so that the row of all their integers is plain; not all are 0."""
+    wide = len(rows[0])
+    row = plain([number for mine in rows for number in mine])
+    return tuple([row[at * wide:(at + 1) * wide] for at in range(len(rows))])
+
+
+def evened(rows, values):
+    """The rows, each divided by its value, which is not 0, and then all of them made plain together."""
+    common = 1
+    for value in values:
+        common = lcm(common, value)
+    return plain_together([[number * (common // value) for number in row] for row, value in zip(rows, values)])
 
 
 def dot(one, other):

@@ -45,9 +45,8 @@ def told_peaks(surface):
 def touching_plane(surface, place):
     """The plane that touches the surface at a place that is no peak."""
     told = given_surface(surface)
-    row = given_row(place, 4, "place")
-    plane = plain_or_none(slopes_at(told.form, 3, row))
-    if plane is None or not is_zero_at(told.form, row):
+    plane = touching_at(told.form, given_row(place, 4, "place"))
+    if plane is None:
         raise Misfit("place")
     return plane
 
@@ -63,6 +62,11 @@ def no_other_peak(surface):
     told = given_surface(surface)
     lines = [told.lines[number] for number in standing_numbers(told.pins.bars)]
     return NoOtherPeak(lines, no_other_line(told), [common_form(told.form, line) for line in lines])
+
+
+def touching_at(form, place):
+    """The plane that touches a form at a place; None for a peak, or where the form is not 0."""
+    return plain_or_none(slopes_at(form, 3, place)) if is_zero_at(form, place) else None
 
 
 def shrunk(surface, bar):

@@ -2,7 +2,7 @@
 
 from sixpins.checks import is_integers
 from sixpins.classes import line_class, times_crossed
-from sixpins.errors import BadNames, BadRow, BadText, Misfit
+from sixpins.errors import BadNames, BadRenaming, BadRow, BadText, Misfit
 from sixpins.given import given_name, given_pin
 from sixpins.integers import mixed
 from sixpins.names import given_six, is_names, is_six
@@ -80,6 +80,13 @@ class Renaming:
         if not isinstance(text, str) or not is_six(text.split(" ")):
             raise BadText("text")
         return cls(text.split(" "))
+
+
+def given_renaming(value, part):
+    """A Renaming that is passed."""
+    if not isinstance(value, Renaming):
+        raise BadRenaming(part)
+    return value
 
 
 def led_row(six, row):

@@ -2,7 +2,7 @@
 
 from sixpins.errors import Misfit
 from sixpins.given import given_row, given_table
-from sixpins.integers import dot, plain_or_none
+from sixpins.integers import dot, leading_place, plain_or_none, plain_together
 
 
 def led(table, row):
@@ -35,7 +35,7 @@ def undone(table):
     told = given_table(table, "table")
     if determinant_of(told) == 0:
         return None
-    return plain_table_of(adjoint_of(told))
+    return inverse_of(told)
 
 
 def image_of(table, row):
@@ -51,11 +51,9 @@ def product_of(one, other):
 
 def plain_table_of(table):
     """The plain table that is a number times this one; None for zeros alone."""
-    many = len(table)
-    row = plain_or_none([number for mine in table for number in mine])
-    if row is None:
+    if all([leading_place(row) is None for row in table]):
         return None
-    return tuple([row[at * many:(at + 1) * many] for at in range(many)])
+    return plain_together(table)
 
 
 def determinant_of(table):
@@ -77,3 +75,8 @@ def adjoint_of(table):
     """The table that, times this one, has the determinant at each corner and 0 elsewhere."""
     many = len(table)
     return tuple([tuple([cofactor(table, place, at) for place in range(many)]) for at in range(many)])
+
+
+def inverse_of(table):
+    """The plain table that leads back what the table led; its determinant is not 0."""
+    return plain_table_of(adjoint_of(table))

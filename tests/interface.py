@@ -39,6 +39,15 @@ FUNCTIONS = {
     "check_peaks": {"shows_peaks": "form places value"},
     "renamings": {"pins_swapped": "pin other", "pins_turned": "one other third", "six_exchanged": "six",
                   "judged_map": "pictures"},
+    "words": {"word_of": "renaming", "said_by": "word"},
+    "changes": {"frame_of": "pins", "settled_pins": "pins", "led_pins": "pins change", "judged_flat": "pins other",
+                "lifted": "pins change", "changed_form": "form change", "led_line": "change line"},
+    "downs": {"judged_down": "surface renaming", "judged_move": "surface renaming"},
+    "matrices": {"matrix_at": "matrix place", "determinant_form": "matrix", "judged_matrix": "surface",
+                 "left_spot": "surface place", "right_spot": "surface place", "told_across": "surface",
+                 "carried_matrix": "surface renaming"},
+    "outlines": {"outline_form": "form place", "seen_from": "place other", "outline_of": "surface place"},
+    "strokes": {"compared_times": "one other", "judged_stroke": "pins pin to"},
 }
 
 ERRORS = {name: "part" for name in (
@@ -66,6 +75,18 @@ CLASSES = {
     "renamings": {"Kept": ("six", ("__init__",)), "Breaks": ("one other", ("__init__",)),
                   "Renaming": ("six", ("__init__", "led_name", "led_class", "__mul__", "undone", "still", "times",
                                        "__eq__", "__str__", "read"))},
+    "changes": {"Settled": ("pins change", ("__init__",)), "Flat": ("change", ("__init__",)),
+                "Lifted": ("pins change", ("__init__",)), "Unlike": ("three", ("__init__",)),
+                "NoFlat": ("pin one other", ("__init__",))},
+    "downs": {"Down": ("pins degree forms change", ("__init__",)), "Move": ("change", ("__init__",)),
+              "Fallen": ("name", ("__init__",))},
+    "matrices": {"Matrix": ("scale", ("__init__",)), "Across": ("names pins change", ("__init__",)),
+                 "Carried": ("matrix scale", ("__init__",)), "OnCurve": ("curve", ("__init__",))},
+    "outlines": {"Outline": ("kept form touches", ("__init__",))},
+    "strokes": {"Goes": ("kept forms moments", ("__init__",)), "Surd": ("form which", ("__init__",)),
+                "Still": ("", ("__init__",)),
+                "Stroke": ("pins pin to", ("__init__", "__len__", "__iter__", "__eq__", "spot_at", "pins_at", "bars_at",
+                                           "part"))},
 }
 
 # The parameters of methods; what is told to the object itself is left out.
@@ -73,11 +94,13 @@ METHODS = {("pins", "Pins"): {"through": "*numbers", "read": "text"},
            ("surface", "Surface"): {"place_of": "spot", "place_at": "pin line", "holds": "place", "back": "place",
                                     "third": "one other"},
            ("renamings", "Renaming"): {"led_name": "name", "led_class": "row", "undone": "", "still": "",
-                                       "times": "", "read": "text"}}
+                                       "times": "", "read": "text"},
+           ("strokes", "Stroke"): {"spot_at": "time", "pins_at": "time", "bars_at": "time", "part": "one other"}}
 
 MODULES = ("errors", "checks", "papers", "exact", "rows", "kernels", "tables", "plane", "space", "forms", "pins",
            "curves", "surface", "names", "falls", "lines", "fans", "noother", "check_lines", "planes", "ways",
-           "check_ways", "peaks", "check_peaks", "renamings")
+           "check_ways", "peaks", "check_peaks", "renamings", "words", "changes", "downs", "matrices", "outlines",
+           "strokes")
 
 # The document has no examples under these headings; NoOther stands in those of check_lines.
 WITHOUT_EXAMPLES = ("errors", "noother", "check_ways")
