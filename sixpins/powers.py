@@ -137,3 +137,25 @@ def monomial_images(letters, degree, rows):
 def form_on(form, letters, degree, rows):
     """The form on the rows."""
     return mixed(form, monomial_images(letters, degree, rows))
+
+
+def parts_by_last(form, letters, degree):
+    """For each power of the last letter, from 0, the form of the other letters that stands with it."""
+    parts = [[] for _ in range(degree + 1)]
+    for monomial, number in zip(monomials_of(letters, degree), form):
+        parts[monomial[-1]].append(number)
+    return parts
+
+
+def by_last_alone(parts, row):
+    """The integers of a form in its last letter alone, from the power 0 on, where the others are as in the row."""
+    top = len(parts) - 1
+    return [dot(part, monomial_values(row, top - power)) for power, part in enumerate(parts)]
+
+
+def value_by_last(numbers, last):
+    """The value of a form in one letter, told from the power 0 on."""
+    told = 0
+    for number in numbers[::-1]:
+        told = told * last + number
+    return told

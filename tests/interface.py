@@ -1,4 +1,4 @@
-"""The names and parameters that the document lists, module by module, for what has landed."""
+"""The names and parameters that the document lists, module by module."""
 
 FUNCTIONS = {
     "checks": {"is_integer": "value", "is_within": "value least most", "is_number": "value",
@@ -48,6 +48,12 @@ FUNCTIONS = {
                  "carried_matrix": "surface renaming"},
     "outlines": {"outline_form": "form place", "seen_from": "place other", "outline_of": "surface place"},
     "strokes": {"compared_times": "one other", "judged_stroke": "pins pin to"},
+    "rests": {"rest_row": "row prime", "rest_line": "line prime", "count_places": "form prime",
+              "lines_modulo": "form prime"},
+    "primes": {"judged_prime": "pins prime"},
+    "check_primes": {"shows_prime": "pins prime value"},
+    "texts": {"form_text": "form letters degree", "read_form": "text letters degree", "listing": "surface"},
+    "pictures": {"picture": "surface plane wide high under"},
 }
 
 ERRORS = {name: "part" for name in (
@@ -87,6 +93,11 @@ CLASSES = {
                 "Still": ("", ("__init__",)),
                 "Stroke": ("pins pin to", ("__init__", "__len__", "__iter__", "__eq__", "spot_at", "pins_at", "bars_at",
                                            "part"))},
+    "runs": {"Halts": ("row why", ("__init__",)),
+             "Run": ("pins rows", ("__init__", "__len__", "__eq__", "then", "back", "followed"))},
+    "primes": {"Good": ("places", ("__init__",)), "Clash": ("one other", ("__init__",)), "Crowd": ("four", ("__init__",)),
+               "Extra": ("bar", ("__init__",)), "Thin": ("row", ("__init__",))},
+    "desk": {"Desk": ("pins", ("__init__", "push", "turn", "swap", "undo", "do_all"))},
 }
 
 # The parameters of methods; what is told to the object itself is left out.
@@ -95,12 +106,15 @@ METHODS = {("pins", "Pins"): {"through": "*numbers", "read": "text"},
                                     "third": "one other"},
            ("renamings", "Renaming"): {"led_name": "name", "led_class": "row", "undone": "", "still": "",
                                        "times": "", "read": "text"},
-           ("strokes", "Stroke"): {"spot_at": "time", "pins_at": "time", "bars_at": "time", "part": "one other"}}
+           ("strokes", "Stroke"): {"spot_at": "time", "pins_at": "time", "bars_at": "time", "part": "one other"},
+           ("runs", "Run"): {"then": "other", "back": "", "followed": "name"},
+           ("desk", "Desk"): {"push": "pin to", "turn": "one other third", "swap": "pin other", "undo": "",
+                              "do_all": "rows"}}
 
 MODULES = ("errors", "checks", "papers", "exact", "rows", "kernels", "tables", "plane", "space", "forms", "pins",
            "curves", "surface", "names", "falls", "lines", "fans", "noother", "check_lines", "planes", "ways",
            "check_ways", "peaks", "check_peaks", "renamings", "words", "changes", "downs", "matrices", "outlines",
-           "strokes")
+           "strokes", "runs", "rests", "primes", "check_primes", "texts", "pictures", "desk")
 
-# The document has no examples under these headings; NoOther stands in those of check_lines.
-WITHOUT_EXAMPLES = ("errors", "noother", "check_ways")
+# The document has no examples under these headings; what they tell stands in those of the parts that check it.
+WITHOUT_EXAMPLES = ("errors", "noother", "check_ways", "primes")

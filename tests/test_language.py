@@ -13,7 +13,7 @@ from pathlib import Path
 PACKAGE = Path(__file__).parent.parent / "sixpins"
 
 STATEMENTS = ("FunctionDef ClassDef Return Assign AugAssign For While If Raise Expr ImportFrom Pass Break "
-              "Continue Assert Delete Module")
+              "Continue Assert Delete Module Try ExceptHandler")
 EXPRESSIONS = ("BoolOp BinOp UnaryOp IfExp Compare Call Constant Attribute Subscript Starred Name List Tuple "
                "Slice ListComp DictComp Dict JoinedStr FormattedValue Lambda comprehension keyword arguments arg alias "
                "Load Store Del")
@@ -203,6 +203,15 @@ class LanguageTest(unittest.TestCase):
             with self.subTest(where):
                 self.assertEqual(len(inner.args), 1)
                 self.assertNotEqual(called(inner.args[0]), "set")
+
+    def test_own_errors_alone_are_caught(self):
+        own = {row.name for path, _, tree in files() if path.stem == "errors" for row in tree.body
+               if isinstance(row, ast.ClassDef)}
+        for where, node in each(ast.Try):
+            with self.subTest(where):
+                self.assertFalse(node.finalbody or node.orelse)
+                for handler in node.handlers:
+                    self.assertIn(getattr(handler.type, "id", None), own)
 
     def test_not_implemented_is_returned(self):
         names = {where for where, node in each(ast.Name) if node.id == "NotImplemented"}
