@@ -1,12 +1,12 @@
 """Changes of the plane and of space, and pins that they lead to one another."""
 
 from sixpins.checks import is_table
-from sixpins.classes import threes_on
+from sixpins.classes import FOURS, threes_on
 from sixpins.curves import curves
 from sixpins.echelon import basis_of
 from sixpins.errors import BadTable
 from sixpins.given import given_cubic, given_line
-from sixpins.integers import ascending_choices, crossing, dot, evened, mixed, plain
+from sixpins.integers import crossing, dot, evened, mixed, plain
 from sixpins.making import shares_of
 from sixpins.papers import Denial, Paper
 from sixpins.pins import Pins, given_pins
@@ -114,7 +114,7 @@ def given_change(value, many):
 
 def frame_with(threes):
     """The frame of pins of which these threes are in a line."""
-    for four in ascending_choices(0, 6, 4):
+    for four in FOURS:
         if not any([three in threes for three in [four[:at] + four[at + 1:] for at in range(4)]]):
             return four
     return None

@@ -2,10 +2,13 @@
 
 from sixpins.check_lines import is_whole
 from sixpins.checks import is_integers, is_list
+from sixpins.cubics import common_on, factor_at, slopes_at_row
 from sixpins.given import given_cubic, given_rows
-from sixpins.peaks import NoOtherPeak, common_form, factor_at
-from sixpins.powers import all_slopes, product_form, value_at
+from sixpins.integers import leading_place
+from sixpins.peaks import NoOtherPeak
+from sixpins.powers import value_at
 from sixpins.space import is_line, is_on, shares_on
+from sixpins.written import pair_product, space_slopes
 
 
 def shows_peaks(form, places, value):
@@ -16,7 +19,8 @@ def shows_peaks(form, places, value):
         return False
     if not are_unlike_peaks(told, peaks) or not is_whole(told, value.lines, value.alone):
         return False
-    return all([is_common(told, line, common) and is_made_of(common, factors_along(line, peaks))
+    slopes = space_slopes(told)
+    return all([is_common(slopes, line, common) and is_made_of(common, factors_along(line, peaks))
                 for line, common in zip(value.lines, value.commons)])
 
 
@@ -29,14 +33,14 @@ def has_peak_parts(told):
 
 def are_unlike_peaks(form, places):
     """Whether the places are unlike, and each is a peak of the form."""
-    slopes = all_slopes(form, 4, 3)
-    return len(set(places)) == len(places) and all([value_at(slope, 2, place) == 0
-                                                    for slope in slopes for place in places])
+    slopes = space_slopes(form)
+    return len(set(places)) == len(places) and all([leading_place(slopes_at_row(slopes, place)) is None
+                                                    for place in places])
 
 
-def is_common(form, line, value):
-    """Whether any value is the common form of the line, which must not be ()."""
-    common = common_form(form, line)
+def is_common(slopes, line, value):
+    """Whether any value is the common form of a line on a form with these slopes, which must not be ()."""
+    common = common_on(slopes, line)
     return common != () and is_integers(value, len(common)) and tuple(value) == common
 
 
@@ -52,5 +56,4 @@ def is_made_of(common, factors):
         return True
     if len(common) == 2:
         return common in dividing
-    products = [product_form(one, other, 2, 1, 1) for one in dividing for other in dividing]
-    return common in products
+    return list(common) in [pair_product(one, other) for one in dividing for other in dividing]

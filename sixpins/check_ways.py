@@ -4,9 +4,8 @@ from math import gcd
 
 from sixpins.checks import is_integer, is_list, is_plain, is_within
 from sixpins.given import given_cubic
-from sixpins.integers import mixed
-from sixpins.powers import product_of_firsts
 from sixpins.ways import Way
+from sixpins.written import triple_product
 
 
 def shows_way(form, value):
@@ -16,8 +15,9 @@ def shows_way(form, value):
         return False
     if sorted(value.first) == sorted(value.second):
         return False
-    products = (product_of_firsts(value.first), product_of_firsts(value.second))
-    return mixed((value.scale,), (told,)) == mixed((value.one, value.other), products)
+    one, other = [triple_product(three[0], three[1], three[2]) for three in (value.first, value.second)]
+    return all([value.scale * number == value.one * first + value.other * second
+                for number, first, second in zip(told, one, other)])
 
 
 def has_way_parts(way):

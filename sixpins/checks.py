@@ -2,7 +2,7 @@
 
 from math import gcd
 
-from sixpins.integers import plain
+from sixpins.integers import leading_place, plain
 
 
 def is_integer(value):
@@ -19,12 +19,14 @@ def is_within(value, least, most):
 
 def is_list(value, least, most):
     """Whether the value is a list or tuple of least to most values; None is no bound."""
-    return isinstance(value, (list, tuple)) and is_within(len(value), least, most)
+    return isinstance(value, (list, tuple)) and len(value) >= least and (most is None or len(value) <= most)
 
 
 def is_integers(value, many):
     """Whether the value is a list or tuple of just so many integers; all may be 0."""
-    return is_list(value, many, many) and all([is_integer(number) for number in value])
+    if not isinstance(value, (list, tuple)) or len(value) != many:
+        return False
+    return all([type(number) is int or is_integer(number) for number in value])
 
 
 def is_number(value):
@@ -38,7 +40,7 @@ def is_number(value):
 
 def is_row(value, many):
     """Whether the value is a list or tuple of just so many integers, not all 0."""
-    return is_integers(value, many) and any([number != 0 for number in value])
+    return is_integers(value, many) and leading_place(value) is not None
 
 
 def is_plain(value, many):

@@ -5,16 +5,17 @@ shrinks to one of the new pins.
 """
 
 from sixpins.changes import frame_with
-from sixpins.classes import line_class, pins_with
+from sixpins.classes import THREES, line_class, pins_with
 from sixpins.curves import curves
 from sixpins.echelon import rank_of
-from sixpins.integers import ascending_choices, crossing, dot, evened, mixed, plain
+from sixpins.integers import crossing, dot, evened, mixed, plain
 from sixpins.pins import Pins
-from sixpins.plane import seconds_at
-from sixpins.powers import monomial_values, product_form, slopes_at, value_at
-from sixpins.renamings import led_row
-from sixpins.roster import CLASSES, names_of, number_of_class
+from sixpins.plane import curve_through
+from sixpins.powers import monomial_values, product_form, value_at
+from sixpins.renamings import frame_of_six, led_by
+from sixpins.roster import CLASSES, number_of_class
 from sixpins.tables import inverse_of, plain_table_of, product_of
+from sixpins.written import plane_between, plane_squares
 
 # A form of degree 15 that is 0 at all spots (1, y, z) with y and z below 16 is 0 throughout.
 GRID = 16
@@ -25,7 +26,7 @@ def form_of_name(pins, number):
     spots = [pins.spots[pin] for pin in pins_with(CLASSES[number])]
     if not spots:
         return (1,)
-    return plain(crossing(spots[0], spots[1])) if len(spots) == 2 else seconds_at(spots)[0]
+    return plain(crossing(spots[0], spots[1])) if len(spots) == 2 else curve_through(spots)
 
 
 def spot_of_name(pins, number):
@@ -42,36 +43,37 @@ def spot_of_name(pins, number):
 
 def spot_on_curve(pins, spots):
     """A spot that is no pin on the curve of second degree through five pins, no three of them in a line."""
-    curve = seconds_at(spots)[0]
-    slopes = slopes_at(curve, 2, spots[0])
+    curve = curve_through(spots)
+    first, one, other = spots[:3]
     told = []
     # The line from the first of the pins through such a spot has just one
     # further spot of the curve, another one each time: at three of four times
     # at most it is the first pin, or one of the last two.
     for times in range(1, 5):
-        along = mixed((1, times), spots[1:3])
-        told.append(plain(mixed((value_at(curve, 2, along), -dot(slopes, along)), (spots[0], along))))
+        along = mixed((1, times), (one, other))
+        both = dot(curve, plane_between(first, along))
+        told.append(plain(mixed((dot(curve, plane_squares(along)), -both), (first, along))))
     return [spot for spot in told if spot not in pins.spots][0]
 
 
 def coming_pins(pins, six):
-    """The settled pins to which a six comes down, and the three forms that lead spots to spots."""
+    """The degree in which a six comes down, the settled pins to which it does, and the forms that lead to these."""
+    frame = frame_of_six(six)
     shrinking = [spot_of_name(pins, number) for number in six]
-    names = names_of(six)
-    threes = [three for three in ascending_choices(0, 6, 3) if led_row(names, line_class(three)) in pins.bars]
+    threes = [three for three in THREES if led_by(frame, line_class(three)) in pins.bars] if pins.bars else []
     one, other, third, last = frame_with(threes)
-    sides = [side_between(pins, six, *two) for two in ((other, third), (one, third), (one, other))]
-    degree = led_row(names, (1, 0, 0, 0, 0, 0, 0))[0]
+    sides = [side_between(pins, six, frame, two) for two in ((other, third), (one, third), (one, other))]
+    degree = frame[0][0]
     forms = evened(sides, values_at(sides, degree, shrinking[last]))
-    return Pins([values_at(forms, degree, spot) for spot in shrinking]), forms
+    return degree, Pins([values_at(forms, degree, spot) for spot in shrinking]), forms
 
 
-def side_between(pins, six, one, other):
+def side_between(pins, six, frame, two):
     """The form of the spots that are led to the join of two of the new pins."""
     # The join and the names of both pins add up to the class of a line of the plane.
-    join = number_of_class(led_row(names_of(six), line_class((one, other))))
+    join = number_of_class(led_by(frame, line_class(two)))
     told, degree = (1,), 0
-    for number in (join, six[one], six[other]):
+    for number in (join, six[two[0]], six[two[1]]):
         further = CLASSES[number][0]
         told = product_form(told, form_of_name(pins, number), 3, degree, further)
         degree = degree + further

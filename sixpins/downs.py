@@ -4,7 +4,7 @@ from sixpins.changes import judged_between, lifted_table
 from sixpins.coming import coming_change, coming_pins
 from sixpins.falls import stands
 from sixpins.papers import Denial, Paper
-from sixpins.renamings import given_renaming, led_row
+from sixpins.renamings import given_renaming
 from sixpins.roster import number_of
 from sixpins.surface import given_surface
 from sixpins.tables import inverse_of, plain_table_of, product_of
@@ -63,6 +63,5 @@ def judged_six(surface, names):
     for name, number in zip(names, six):
         if not stands(surface.pins.bars, number):
             return Fallen(name)
-    degree = led_row(names, (1, 0, 0, 0, 0, 0, 0))[0]
-    later, forms = coming_pins(surface.pins, six)
+    degree, later, forms = coming_pins(surface.pins, six)
     return Down(later, degree, forms, coming_change(surface, six, later, forms, degree))

@@ -61,6 +61,8 @@ def fallen(bars, number):
 
 def all_fallen(bars):
     """The list of the numbers on which the 27 names fall, one by one."""
+    if not bars:
+        return list(range(MANY_NAMES))
     return [fallen(bars, number) for number in range(MANY_NAMES)]
 
 

@@ -1,14 +1,15 @@
 """Fans: five planes through a line on a form, in each of which it has two further lines."""
 
+from sixpins.cubics import fifth_by, free_places, lies_by
 from sixpins.errors import Misfit
 from sixpins.falls import stands
 from sixpins.given import given_cubic, given_line, given_name
-from sixpins.integers import leading_place, mixed, plain
+from sixpins.integers import leading_place, plain
 from sixpins.papers import Paper
-from sixpins.powers import form_on, product_form, product_of_firsts
-from sixpins.roster import pairs_beside
+from sixpins.roster import PAIRS_BESIDE
 from sixpins.space import plane_of_lines
 from sixpins.surface import given_surface
+from sixpins.written import pair_product, space_slopes
 
 
 class Fan(Paper):
@@ -24,10 +25,11 @@ class Fan(Paper):
 def fifth_form(form, line):
     """The fifth form of a line that lies on a form of third degree in space."""
     told = given_cubic(form, "form")
-    fifth = fifth_or_none(told, given_line(line, "line"))
-    if fifth is None:
+    slopes = space_slopes(told)
+    rows = given_line(line, "line")
+    if not lies_by(slopes, rows):
         raise Misfit("line")
-    return fifth
+    return fifth_by(told, slopes, rows, free_places(rows))
 
 
 def fan_of(surface, name):
@@ -43,47 +45,19 @@ def fan_at(surface, number):
     """The fan of the line of the standing name of this number."""
     line = surface.lines[number]
     fives = []
-    for one, other in pairs_beside(number):
+    for one, other in PAIRS_BESIDE[number]:
         first, second = surface.lines[one], surface.lines[other]
         fives.append((plane_of_lines((line, first, second)), first, second))
     factors = factors_product(line, [five[0] for five in fives])
-    fifth = fifth_or_none(surface.form, line)
+    fifth = fifth_by(surface.form, surface.form_slopes, line, free_places(line))
     lead = leading_place(factors)
     return Fan(line, fives, fifth[lead] // factors[lead])
 
 
-def fifth_or_none(form, line):
-    """The fifth form of a line, reduced; None if it does not lie on the form."""
-    rows = line + tuple([unit_row(place) for place in free_places(line)])
-    # The letters are s, t, w u and w v.
-    told = form_on(form, 4, 3, rows)
-    if (told[0], told[1], told[4], told[10]) != (0, 0, 0, 0):
-        return None
-    ss, st, tt = told[2:4], told[5:7], told[11:13]
-    s, t, alone = told[7:10], told[13:16], told[16:20]
-    terms = (joint(ss, tt, alone), joint(st, s, t), joint(ss, t, t), joint(tt, s, s), joint(alone, st, st))
-    return mixed((4, 1, -1, -1, -1), terms)
-
-
-def joint(*forms):
-    """The product of some forms in two letters."""
-    told = (1,)
-    for form in forms:
-        told = product_form(told, form, 2, len(told) - 1, len(form) - 1)
-    return told
-
-
-def free_places(line):
-    """The two places that are leading places of neither row of a reduced line, ascending."""
-    leads = [leading_place(row) for row in line]
-    return [place for place in range(4) if place not in leads]
-
-
-def unit_row(at):
-    """The row of four with 1 at this place and 0 elsewhere."""
-    return tuple([1 if place == at else 0 for place in range(4)])
-
-
 def factors_product(line, planes):
     """The product of the factors of some planes through a line."""
-    return product_of_firsts([plain([plane[place] for place in free_places(line)]) for plane in planes])
+    left, right = free_places(line)
+    told = [1]
+    for plane in planes:
+        told = pair_product(told, plain((plane[left], plane[right])))
+    return tuple(told)

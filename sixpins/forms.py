@@ -1,9 +1,11 @@
 """Forms: monomials, values, products, slopes, and forms on rows, lines and planes."""
 
+from sixpins.cubics import lies_by, on_two_by
 from sixpins.echelon import kernel_of
 from sixpins.given import given_form, given_integer, given_integer_rows, given_integers, given_line, given_row
 from sixpins.powers import (CUBIC_MONOMIALS, form_on, many_monomials, monomials_of, product_form, slope_form,
                             value_at)
+from sixpins.written import space_slopes
 
 LEAST_LETTERS = 2
 MOST_LETTERS = 4
@@ -61,18 +63,14 @@ def pulled_form(form, letters, degree, rows):
 def on_line_of(form, line):
     """A form of third degree in space on the two rows of a line."""
     told = given_form(form, CUBIC_MONOMIALS, "form")
-    return form_on(told, 4, 3, given_line(line, "line"))
+    one, other = given_line(line, "line")
+    return on_two_by(space_slopes(told), one, other)
 
 
 def lies(form, line):
     """Whether a form of third degree in space lies on a line."""
     told = given_form(form, CUBIC_MONOMIALS, "form")
-    return is_along(told, given_line(line, "line"))
-
-
-def is_along(form, line):
-    """Whether a form of third degree in space lies on a reduced line, without any checks."""
-    return form_on(form, 4, 3, line) == (0, 0, 0, 0)
+    return lies_by(space_slopes(told), given_line(line, "line"))
 
 
 def on_plane_of(form, plane):

@@ -5,9 +5,9 @@ parameter's name as its part.
 """
 
 from sixpins.checks import is_integer_rows, is_integers, is_list, is_row, is_rows, is_table, is_within
-from sixpins.echelon import basis_of
+from sixpins.echelon import pair_basis
 from sixpins.errors import BadForm, BadName, BadNumber, BadRow, BadTable
-from sixpins.integers import plain
+from sixpins.integers import leading_place, plain
 from sixpins.powers import CUBIC_MONOMIALS
 from sixpins.roster import is_name, number_of
 
@@ -55,9 +55,12 @@ def given_integer_rows(value, least, most, many, part):
 def given_line(value, part):
     """The line of space that has two unlike places, which tell it."""
     told = given_rows(value, 2, 2, 4, part)
-    if told[0] == told[1]:
+    one, other = told
+    if one == other:
         raise BadRow(part)
-    return basis_of(told, 4)
+    lead = leading_place(other)
+    # Most lines are told as they are returned.
+    return told if leading_place(one) < lead and one[lead] == 0 else pair_basis(one, other)
 
 
 def given_lines(value, part):

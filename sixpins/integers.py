@@ -16,9 +16,11 @@ def plain(row):
     shared = 0
     for number in row:
         shared = gcd(shared, number)
+        if shared == 1:
+            break
     if row[leading_place(row)] < 0:
         shared = -shared
-    return tuple([number // shared for number in row])
+    return tuple(row) if shared == 1 else tuple([number // shared for number in row])
 
 
 def plain_or_none(row):
@@ -58,11 +60,3 @@ def crossing(one, other):
     return (one[1] * other[2] - one[2] * other[1],
             one[2] * other[0] - one[0] * other[2],
             one[0] * other[1] - one[1] * other[0])
-
-
-def ascending_choices(least, end, many):
-    """All ascending tuples of so many integers from least to end - 1, ascending."""
-    if many == 0:
-        return [()]
-    return [(number,) + rest for number in range(least, end)
-            for rest in ascending_choices(number + 1, end, many - 1)]

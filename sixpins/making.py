@@ -4,19 +4,23 @@ from math import lcm
 
 from sixpins.echelon import kernel_of
 from sixpins.integers import leading_place, mixed, plain
-from sixpins.powers import form_on, monomials_of, product_form, raised_places
+from sixpins.powers import form_on, product_form
+from sixpins.written import plane_second_product, space_product, space_second_product
 
 # The columns of a table of three rows, beginning with each, in turn.
 TURNS = ((0, 1, 2), (1, 2, 0), (2, 0, 1))
 UNITS = ((1, 0, 0), (0, 1, 0), (0, 0, 1))
 
+# For each monomial of third degree in three letters the places of its products with them, among those of fourth.
+RAISED = ((0, 1, 2), (1, 3, 4), (2, 4, 5), (3, 6, 7), (4, 7, 8), (5, 8, 9), (6, 10, 11), (7, 11, 12), (8, 12, 13),
+          (9, 13, 14))
+
 
 def relations_of(curves):
     """The reduced basis of the relations of four curves."""
-    places = raised_places(3, 3)
-    rows = [[0] * 12 for _ in monomials_of(3, 4)]
+    rows = [[0] * 12 for _ in range(15)]
     for at, curve in enumerate(curves):
-        for number, raised in zip(curve, places):
+        for number, raised in zip(curve, RAISED):
             for letter, place in enumerate(raised):
                 rows[place][3 * at + letter] = number
     return kernel_of(rows, 12)
@@ -29,16 +33,16 @@ def matrix_of(relations):
 
 def matrix_determinant(matrix):
     """The determinant of three rows of three forms of first degree in space, a form of third degree."""
-    parts = [product_form(matrix[0][first], corner_of(matrix, second, third), 4, 1, 2)
+    parts = [space_second_product(matrix[0][first], corner_of(matrix, second, third))
              for first, second, third in TURNS]
-    return mixed((1, 1, 1), parts)
+    return tuple([sum(numbers) for numbers in zip(*parts)])
 
 
 def corner_of(matrix, second, third):
     """The determinant of rows 1 and 2 of a matrix at these two columns."""
-    along = product_form(matrix[1][second], matrix[2][third], 4, 1, 1)
-    across = product_form(matrix[1][third], matrix[2][second], 4, 1, 1)
-    return mixed((1, -1), (along, across))
+    along = space_product(matrix[1][second], matrix[2][third])
+    across = space_product(matrix[1][third], matrix[2][second])
+    return [one - other for one, other in zip(along, across)]
 
 
 def form_of(curves, matrix, curve):
@@ -54,7 +58,7 @@ def form_by_curve(curves, curve):
     # so some forms X, Y, Z of first degree in space are n q x, n q y and n q z
     # at the curves. For each curve f, n f q(X, Y, Z) - f(X, Y, Z) is 0 there;
     # it is 0 throughout just for the curves that are q times a line.
-    scale, rows = shares_of(curves, [product_form(curve, unit, 3, 2, 1) for unit in UNITS])
+    scale, rows = shares_of(curves, [plane_second_product(unit, curve) for unit in UNITS])
     seconds = form_on(curve, 3, 2, rows)
     told = []
     for at, cubic in enumerate(curves):

@@ -3,9 +3,9 @@
 from sixpins.checks import is_integers, is_list
 from sixpins.errors import BadNames, BadRow
 from sixpins.given import given_name
-from sixpins.roster import (CLASSES, MANY_IN_SIX, MANY_NAMES, NAMES, all_trios_of_numbers, are_six, arrays_at,
-                            first_way, is_array, is_name, met, names_of, number_of, number_of_class, pairs_beside,
-                            partner_of_numbers, sixes_from, trios_with)
+from sixpins.lists import ARRAYS, SIXES, TRIOS
+from sixpins.roster import (CLASSES, MANY_IN_SIX, NAMES, PAIRS_BESIDE, are_six, first_way, is_array, is_name, met,
+                            names_of, number_of, number_of_class, partner_of_numbers)
 
 
 def all_names():
@@ -34,17 +34,18 @@ def times_met(one, other):
 
 def all_trios():
     """The ascending tuple of the 45 trios."""
-    return tuple([names_of(trio) for trio in all_trios_of_numbers()])
+    return TRIOS
 
 
 def trios_of(name):
     """The ascending tuple of the five trios with this name."""
-    return tuple([names_of(trio) for trio in trios_with(given_name(name, "name"))])
+    given_name(name, "name")
+    return tuple([trio for trio in TRIOS if name in trio])
 
 
 def pairs_of(name):
     """The ascending tuple of the five pairs of other names in the trios with this one."""
-    return tuple([names_of(pair) for pair in pairs_beside(given_name(name, "name"))])
+    return tuple([names_of(pair) for pair in PAIRS_BESIDE[given_name(name, "name")]])
 
 
 def is_six(value):
@@ -68,7 +69,7 @@ def given_six(value, part):
 
 def all_sixes():
     """The ascending tuple of the 72 sixes."""
-    return tuple([names_of(six) for six in sixes_from((), list(range(MANY_NAMES)))])
+    return SIXES
 
 
 def partner_of(six):
@@ -78,18 +79,12 @@ def partner_of(six):
 
 def all_arrays():
     """The ascending tuple of the 120 arrays, each told in the first of its ways."""
-    told = [array for corner in range(MANY_NAMES) for array in arrays_at(corner)]
-    return tuple([array_names(array) for array in sorted(told)])
-
-
-def array_names(rows):
-    """An array of numbers, as names."""
-    return tuple([names_of(row) for row in rows])
+    return ARRAYS
 
 
 def array_of(rows):
     """The array, told in the first of its ways."""
-    return array_names(given_array(rows, "rows"))
+    return tuple([names_of(row) for row in given_array(rows, "rows")])
 
 
 def given_array(value, part):

@@ -3,7 +3,7 @@
 from sixpins.falls import fallen
 from sixpins.fans import fan_at
 from sixpins.papers import Paper
-from sixpins.roster import all_trios_of_numbers
+from sixpins.roster import TRIOS
 from sixpins.space import plane_of_lines
 from sixpins.surface import given_surface
 
@@ -22,6 +22,6 @@ def no_other_line(surface):
     """A NoOther that shows that the told lines of the surface are whole for its form."""
     told = given_surface(surface)
     # Any trio would do.
-    onto = [fallen(told.pins.bars, number) for number in all_trios_of_numbers()[0]]
+    onto = [fallen(told.pins.bars, number) for number in TRIOS[0]]
     lines = [told.lines[number] for number in onto]
     return NoOther(plane_of_lines(lines), lines, [fan_at(told, number) for number in sorted(set(onto))])

@@ -6,13 +6,14 @@ from sixpins.echelon import kernel_of
 from sixpins.errors import Misfit
 from sixpins.falls import standing_numbers
 from sixpins.given import given_cubic, given_row
-from sixpins.integers import leading_place, mixed, plain
+from sixpins.integers import dot, leading_place, mixed, plain
 from sixpins.papers import Paper
 from sixpins.peaks import touching_at
 from sixpins.powers import form_on, product_form
 from sixpins.roster import NAMES
 from sixpins.space import is_on
 from sixpins.surface import given_surface, is_zero_at
+from sixpins.written import (pair_product, plane_between, plane_dot, plane_slopes, plane_squares, space_crossing)
 
 # What stands behind the names, for the touch of the touching plane.
 PLANE = "plane"
@@ -34,7 +35,7 @@ def outline_form(form, place):
     row = given_row(place, 4, "place")
     if not is_zero_at(told, row):
         raise Misfit("place")
-    return outline_at(told, row)
+    return outline_by(parts_at(told, row))
 
 
 def seen_from(place, other):
@@ -54,19 +55,30 @@ def outline_of(surface, place):
     plane = touching_at(told.form, row)
     if plane is None:
         raise Misfit("place")
-    form = outline_at(told.form, row)
-    planes = [(NAMES[number], kernel_of((row,) + told.lines[number], 4)[0])
+    parts = parts_at(told.form, row)
+    planes = [(NAMES[number], plane_of_rows(row, told.lines[number]))
               for number in standing_numbers(told.pins.bars) if not is_on(told.lines[number], row)]
-    return Outline(kept_places(row), form, [touch_of(form, name, plain(kept_of(its, row)))
-                                            for name, its in planes + [(PLANE, plane)]])
+    slopes = plane_slopes(parts[2])
+    touches = [touch_of(parts, slopes, name, plain(kept_of(its, row))) for name, its in planes + [(PLANE, plane)]]
+    return Outline(kept_places(row), outline_by(parts), touches)
 
 
-def outline_at(form, place):
-    """The outline form of a form at a plain row."""
+def plane_of_rows(place, line):
+    """The row of the plane of a place and a line, just as it comes."""
+    return space_crossing(place, line[0], line[1])
+
+
+def parts_at(form, place):
+    """The parts of first, second and third degree of a form at a plain row, in the letters kept."""
     units = [tuple([1 if at == kept else 0 for at in range(4)]) for kept in kept_places(place)]
     # In the letters s and those kept: s s times the first part, s times the second, and the third.
     told = form_on(form, 4, 3, [place] + units)
-    first, second, third = told[1:4], told[4:10], told[10:20]
+    return told[1:4], told[4:10], told[10:20]
+
+
+def outline_by(parts):
+    """The outline form that is made of these parts."""
+    first, second, third = parts
     return mixed((1, -4), (product_form(second, second, 3, 2, 2), product_form(first, third, 3, 1, 3)))
 
 
@@ -81,9 +93,17 @@ def kept_of(row, place):
     return tuple([row[at] for at in kept_places(place)])
 
 
-def touch_of(form, name, row):
-    """The touch with this row, and its root."""
-    return name, row, root_of(form_on(form, 3, 4, kernel_of([row], 3)))
+def touch_of(parts, slopes, name, row):
+    """The touch with this row, and its root; the slopes are those of the third part."""
+    one, other = kernel_of([row], 3)
+    # On both rows, in their letters s and t: the outline form is made of its parts as ever.
+    first = [plane_dot(parts[0], one), plane_dot(parts[0], other)]
+    squares, between, last = plane_squares(one), plane_between(one, other), plane_squares(other)
+    second = [dot(parts[1], values) for values in (squares, between, last)]
+    ahead, behind = [[dot(slope, values) for slope in slopes] for values in (squares, last)]
+    third = [plane_dot(ahead, one) // 3, plane_dot(ahead, other), plane_dot(behind, one), plane_dot(behind, other) // 3]
+    return name, row, root_of([number - 4 * its for number, its in zip(pair_product(second, second),
+                                                                       pair_product(first, third))])
 
 
 def root_of(form):

@@ -4,7 +4,7 @@
 def fixed(value):
     """The value with tuples in the place of lists, all the way in."""
     if isinstance(value, (list, tuple)):
-        return tuple([fixed(part) for part in value])
+        return tuple([fixed(part) if isinstance(part, (list, tuple)) else part for part in value])
     return value
 
 

@@ -1,16 +1,16 @@
 """Peaks of a surface, touching planes, and what forms have in common along lines."""
 
 from sixpins.classes import pins_with
-from sixpins.drawing import line_along, row_along
-from sixpins.echelon import basis_of, kernel_of
+from sixpins.cubics import common_by, common_on, slopes_at_row
+from sixpins.drawing import row_towards, spot_beside
 from sixpins.errors import Misfit
 from sixpins.falls import standing_numbers
 from sixpins.given import given_cubic, given_line, given_row
 from sixpins.integers import mixed, plain, plain_or_none
 from sixpins.noother import no_other_line
 from sixpins.papers import Paper
-from sixpins.powers import all_slopes, form_on, slopes_at
-from sixpins.surface import given_surface, is_zero_at
+from sixpins.surface import given_surface
+from sixpins.written import space_dot, space_slopes
 
 
 class Peak(Paper):
@@ -54,54 +54,33 @@ def touching_plane(surface, place):
 def common_along(form, line):
     """The common form of a line, () if there is none."""
     told = given_cubic(form, "form")
-    return common_form(told, given_line(line, "line"))
+    return common_by(space_slopes(told), given_line(line, "line"))
 
 
 def no_other_peak(surface):
     """A NoOtherPeak that shows that the places of the told peaks are all peaks of the surface."""
     told = given_surface(surface)
     lines = [told.lines[number] for number in standing_numbers(told.pins.bars)]
-    return NoOtherPeak(lines, no_other_line(told), [common_form(told.form, line) for line in lines])
+    return NoOtherPeak(lines, no_other_line(told), [common_on(told.form_slopes, line) for line in lines])
 
 
 def touching_at(form, place):
     """The plane that touches a form at a place; None for a peak, or where the form is not 0."""
-    return plain_or_none(slopes_at(form, 3, place)) if is_zero_at(form, place) else None
+    plane = slopes_at_row(space_slopes(form), place)
+    # Three times the value of the form is the sum of its slopes, each times its letter.
+    return plain_or_none(plane) if space_dot(plane, place) == 0 else None
 
 
 def shrunk(surface, bar):
     """The place to which a bar shrinks."""
     through = pins_with(bar)
     # Two pins tell the line of a bar, five the bent curve.
-    line = line_along(surface.pins, through[:2] if bar[0] == 1 else through[:5], through[0])
-    return plain(row_along(surface.pins, surface.slopes, through[0], line))
+    spot = spot_beside(surface.pins, through[0], through[:2] if bar[0] == 1 else through[:5])
+    return plain(row_towards(surface.slopes, through[0], spot))
 
 
 def cone_of(form, peak):
     """The cone of a peak, as a plain row."""
     # At the peak and s times a row q the form has, times s s, the sum of its
     # slopes at q, each times the peak's integer for its letter.
-    return plain(mixed(peak, all_slopes(form, 4, 3)))
-
-
-def common_form(form, line):
-    """The common form of a reduced line, () if there is none."""
-    forms = basis_of([form_on(slope, 4, 2, line) for slope in all_slopes(form, 4, 3)], 3)
-    if len(forms) <= 1:
-        return forms[0] if forms else ()
-    return common_of_two(forms) if len(forms) == 2 else (1,)
-
-
-def common_of_two(forms):
-    """The common form of two independent forms of second degree in two letters."""
-    # If they are 0 at one (s, t), then ss, st, tt are the one row that is orthogonal to both.
-    squared, mixed_term, further = kernel_of(forms, 3)[0]
-    if squared * further != mixed_term * mixed_term:
-        return (1,)
-    root = (squared, mixed_term) if squared != 0 else (0, 1)
-    return factor_at(root)
-
-
-def factor_at(root):
-    """The plain form of first degree in s and t that is 0 at this s and t."""
-    return plain((root[1], -root[0]))
+    return plain(mixed(peak, space_slopes(form)))

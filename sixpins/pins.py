@@ -1,13 +1,14 @@
 """Pins: six spots, their bars, and the kind of pins."""
 
 from sixpins.checks import is_row, is_within
-from sixpins.classes import BENT, line_class, times_crossed
+from sixpins.classes import BENT, FOURS, PAIRS, THREES, line_class, times_crossed
 from sixpins.errors import BadNumber, BadPins, BadText, NoPins
 from sixpins.given import given_rows
-from sixpins.integers import ascending_choices, crossing, dot, plain
+from sixpins.integers import crossing, plain
 from sixpins.papers import Denial, Paper
 from sixpins.plane import seconds_at
 from sixpins.rows import read_row, row_text
+from sixpins.written import plane_dot
 
 MANY = 6
 
@@ -39,42 +40,54 @@ class InLine(Denial):
 
 def judged_pins(spots):
     """Whether six spots are pins: an Apart, a Same or an InLine."""
-    told = given_rows(spots, MANY, MANY, 3, "spots")
-    for one, other in ascending_choices(0, MANY, 2):
-        if told[one] == told[other]:
-            return Same(one, other)
-    threes = threes_in_line(told)
-    for four in ascending_choices(0, MANY, 4):
+    told = given_spots(spots)
+    return judged_by(told, brackets_of(told))
+
+
+def given_spots(value):
+    """The plain rows of six spots, passed as the parameter `spots`."""
+    return given_rows(value, MANY, MANY, 3, "spots")
+
+
+def brackets_of(spots):
+    """For each three numbers the determinant of these spots."""
+    sides = {pair: crossing(spots[pair[0]], spots[pair[1]]) for pair in PAIRS}
+    return {three: plane_dot(sides[three[:2]], spots[three[2]]) for three in THREES}
+
+
+def judged_by(spots, brackets):
+    """Whether six spots with these brackets are pins."""
+    if len(set(spots)) < MANY:
+        one, other = [pair for pair in PAIRS if spots[pair[0]] == spots[pair[1]]][0]
+        return Same(one, other)
+    threes = [three for three in THREES if brackets[three] == 0]
+    if len(threes) >= 4:
         # Unlike spots: two threes with two of them in common tell one line.
-        if four[:3] in threes and four[1:] in threes:
-            return InLine(four)
-    return Apart(bars_of(told, threes))
+        fours = [four for four in FOURS if four[:3] in threes and four[1:] in threes]
+        if fours:
+            return InLine(fours[0])
+    return Apart(bars_of(threes, brackets))
 
 
-def threes_in_line(spots):
-    """The ascending list of the threes of numbers whose spots are in a line."""
-    return [(one, other, third) for one, other, third in ascending_choices(0, MANY, 3)
-            if dot(crossing(spots[one], spots[other]), spots[third]) == 0]
-
-
-def bars_of(spots, threes):
-    """The ascending tuple of the bars of pins with these threes in a line."""
+def bars_of(threes, brackets):
+    """The ascending tuple of the bars of pins with these threes in a line, and these brackets."""
     if threes:
         return tuple(sorted([line_class(three) for three in threes]))
-    return (BENT,) if seconds_at(spots) else ()
+    return (BENT,) if is_on_curve(brackets) else ()
 
 
-def curve_of(spots):
-    """The form of second degree that is 0 at all six spots; None if there is none but zeros."""
-    forms = seconds_at(spots)
-    return forms[0] if forms else None
+def is_on_curve(brackets):
+    """Whether all six spots are on a curve of second degree."""
+    # Up to the sign, both products differ by the determinant of the values of xx, xy, .., zz at the spots.
+    one = brackets[0, 1, 2] * brackets[0, 3, 4] * brackets[1, 3, 5] * brackets[2, 4, 5]
+    return one == brackets[0, 1, 3] * brackets[0, 2, 4] * brackets[1, 2, 5] * brackets[3, 4, 5]
 
 
 def kind_of(bars):
     """The kind of pins with these bars."""
-    for one, other in ascending_choices(0, len(bars), 2):
-        if times_crossed(bars[one], bars[other]) == 1:
-            return (2,)
+    # No third bar stands beside two that belong together.
+    if len(bars) == 2 and times_crossed(bars[0], bars[1]) == 1:
+        return (2,)
     return (1,) * len(bars)
 
 
@@ -82,13 +95,15 @@ class Pins:
     """Six spots, unlike, no four of them in one line."""
 
     def __init__(self, spots):
-        judged = judged_pins(spots)
+        told = given_spots(spots)
+        brackets = brackets_of(told)
+        judged = judged_by(told, brackets)
         if not judged:
             raise NoPins(judged)
-        self.spots = tuple([plain(spot) for spot in spots])
+        self.spots = told
         self.bars = judged.bars
         self.kind = kind_of(self.bars)
-        self.curve = curve_of(self.spots)
+        self.curve = seconds_at(told)[0] if is_on_curve(brackets) else None
 
     def through(self, *numbers):
         """The ascending tuple of the bars that have 1 at each of the told pins."""

@@ -3,7 +3,7 @@
 from sixpins.errors import BadNames
 from sixpins.given import given_row
 from sixpins.names import is_names
-from sixpins.roster import all_trios_of_numbers, is_trio, names_of, number_of
+from sixpins.roster import TRIOS, is_trio, names_of, number_of
 from sixpins.space import common_place, is_on, plane_of_lines, within_plane
 from sixpins.surface import given_surface
 
@@ -25,7 +25,7 @@ def joint_of_trio(surface, trio):
 def told_planes(surface):
     """The rows (plane, lines, weight) of the planes of all trios, ascending."""
     told = given_surface(surface)
-    cuts = [tuple(sorted([told.lines[number] for number in trio])) for trio in all_trios_of_numbers()]
+    cuts = [tuple(sorted([told.lines[number] for number in trio])) for trio in TRIOS]
     planes = [plane_of_lines(lines) for lines in cuts]
     lines_in = {plane: lines for plane, lines in zip(planes, cuts)}
     return tuple([(plane, lines_in[plane], planes.count(plane)) for plane in sorted(set(planes))])
@@ -37,7 +37,7 @@ def trios_in(surface, plane):
     sought = given_row(plane, 4, "plane")
     inside = [within_plane(line, sought) for line in told.lines]
     # The lines of a trio lie in just one plane together.
-    return tuple([names_of(trio) for trio in all_trios_of_numbers() if all([inside[number] for number in trio])])
+    return tuple([names_of(trio) for trio in TRIOS if all([inside[number] for number in trio])])
 
 
 def lines_of_trio(surface, trio):

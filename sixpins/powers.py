@@ -3,6 +3,7 @@
 from math import comb
 
 from sixpins.integers import dot, mixed
+from sixpins.written import pair_product
 
 # How many monomials of third degree there are in space.
 CUBIC_MONOMIALS = 20
@@ -42,22 +43,25 @@ def value_at(form, degree, row):
 
 def product_form(one, other, letters, degree, further):
     """The product of a form of the degree `degree` and one of the degree `further`."""
-    places = places_of(letters, degree + further)
-    others = list(zip(monomials_of(letters, further), other))
-    told = [0] * len(places)
-    for first, mine in zip(monomials_of(letters, degree), one):
-        for second, its in others:
-            place = places[tuple([power + more for power, more in zip(first, second)])]
-            told[place] = told[place] + mine * its
-    return tuple(told)
+    if letters == 2:
+        return tuple(pair_product(one, other))
+    # Products of what stands with a power of the first letter, in the letters behind it.
+    parts = [[0] * many_monomials(letters - 1, power) for power in range(degree + further + 1)]
+    others = parts_by_first(other, letters, further)
+    for at, mine in enumerate(parts_by_first(one, letters, degree)):
+        for place, its in enumerate(others):
+            told = product_form(mine, its, letters - 1, at, place)
+            parts[at + place] = [number + more for number, more in zip(parts[at + place], told)]
+    return tuple([number for part in parts for number in part])
 
 
-def product_of_firsts(firsts):
-    """The product of some forms of first degree, all in the same letters."""
-    letters = len(firsts[0])
-    told = (1,)
-    for degree, first in enumerate(firsts):
-        told = product_form(told, first, letters, degree, 1)
+def parts_by_first(form, letters, degree):
+    """The forms, of degrees from 0 on, in the other letters that stand with the powers of the first letter."""
+    told, start = [], 0
+    for power in range(degree + 1):
+        end = start + many_monomials(letters - 1, power)
+        told.append(form[start:end])
+        start = end
     return told
 
 
@@ -87,28 +91,6 @@ def slope_form(form, letters, degree, letter):
     return tuple([(monomial[letter] + 1) * form[raised[letter]] for monomial, raised in zip(lower, places)])
 
 
-def all_slopes(form, letters, degree):
-    """The slopes of a form by all its letters, in their order."""
-    return [slope_form(form, letters, degree, letter) for letter in range(letters)]
-
-
-def monomial_slopes(row, degree):
-    """For each letter the slopes by it of all monomials of a degree at a row, in their order."""
-    letters = len(row)
-    told = [[0] * many_monomials(letters, degree) for _ in row]
-    lower = monomials_of(letters, degree - 1)
-    places = raised_places(letters, degree - 1)
-    for monomial, raised, value in zip(lower, places, monomial_values(row, degree - 1)):
-        for letter, place in enumerate(raised):
-            told[letter][place] = (monomial[letter] + 1) * value
-    return told
-
-
-def slopes_at(form, degree, row):
-    """The values of the slopes of a form of this degree by all its letters at a row."""
-    return tuple([dot(form, slopes) for slopes in monomial_slopes(row, degree)])
-
-
 def times_first(form, first, places, many):
     """The product of a form and one of first degree, which has so many integers."""
     told = [0] * many
@@ -126,7 +108,7 @@ def monomial_images(letters, degree, rows):
     blocks = [[[1]] for _ in firsts]
     for lower in range(degree):
         places = raised_places(len(rows), lower)
-        many = len(monomials_of(len(rows), lower + 1))
+        many = many_monomials(len(rows), lower + 1)
         later = []
         for letter in range(letters - 1, -1, -1):
             later = [times_first(form, firsts[letter], places, many) for form in blocks[letter]] + later
@@ -154,8 +136,5 @@ def by_last_alone(parts, row):
 
 
 def value_by_last(numbers, last):
-    """The value of a form in one letter, told from the power 0 on."""
-    told = 0
-    for number in numbers[::-1]:
-        told = told * last + number
-    return told
+    """The value of a form of third degree in one letter, told from the power 0 on."""
+    return ((numbers[3] * last + numbers[2]) * last + numbers[1]) * last + numbers[0]

@@ -1,13 +1,13 @@
 """Which primes are good for pins: those modulo which their surface is as it is."""
 
-from sixpins.classes import BENT, line_class
+from sixpins.classes import BENT, FOURS, PAIRS, THREES, line_class
 from sixpins.curves import curves
-from sixpins.integers import ascending_choices, crossing, dot
+from sixpins.integers import crossing, dot
 from sixpins.papers import Denial, Paper
 from sixpins.pins import given_pins
-from sixpins.powers import monomial_values
 from sixpins.residues import dependence_by, reduced_by, rest_or_none
 from sixpins.rests import PRIMES, given_prime
+from sixpins.written import plane_squares
 
 
 class Good(Paper):
@@ -79,19 +79,19 @@ def judged_by(pins, prime):
 def clashes(pins, prime):
     """The ascending list of the pairs of numbers of pins whose rest rows are equal."""
     rests = [rest_or_none(spot, prime) for spot in pins.spots]
-    return [pair for pair in ascending_choices(0, 6, 2) if rests[pair[0]] == rests[pair[1]]]
+    return [pair for pair in PAIRS if rests[pair[0]] == rests[pair[1]]]
 
 
 def threes_modulo(pins, prime):
     """The ascending list of the threes of numbers of pins that are in a line modulo the prime."""
     rests = [reduced_by(spot, prime) for spot in pins.spots]
-    return [three for three in ascending_choices(0, 6, 3)
+    return [three for three in THREES
             if dot(crossing(rests[three[0]], rests[three[1]]), rests[three[2]]) % prime == 0]
 
 
 def fours_of(threes):
     """The ascending list of the fours of numbers of which each three is among these."""
-    return [four for four in ascending_choices(0, 6, 4)
+    return [four for four in FOURS
             if all([four[:at] + four[at + 1:] in threes for at in range(4)])]
 
 
@@ -105,4 +105,4 @@ def extras(pins, prime, threes):
 
 def is_bent_modulo(pins, prime):
     """Whether all six pins are on a curve of second degree modulo the prime."""
-    return dependence_by([monomial_values(reduced_by(spot, prime), 2) for spot in pins.spots], prime) is not None
+    return dependence_by([plane_squares(reduced_by(spot, prime)) for spot in pins.spots], prime) is not None

@@ -32,17 +32,20 @@ class Renaming:
     """The renaming that leads p0 .. p5 to the names of a six, in order."""
 
     def __init__(self, six):
-        self.six = names_of(given_six(six, "six"))
+        numbers = given_six(six, "six")
+        self.six = names_of(numbers)
+        # Not of the interface: what each curve class is a sum of.
+        self.frame = frame_of_six(numbers)
 
     def led_name(self, name):
         """The name to which it leads the name."""
-        return NAMES[picture_of(self.six, given_name(name, "name"))]
+        return NAMES[picture_by(self.frame, given_name(name, "name"))]
 
     def led_class(self, row):
         """The curve class to which it leads a curve class."""
         if not is_integers(row, 7):
             raise BadRow("row")
-        return led_row(self.six, row)
+        return led_by(self.frame, row)
 
     def __mul__(self, other):
         if not isinstance(other, Renaming):
@@ -51,7 +54,7 @@ class Renaming:
 
     def undone(self):
         """The renaming that leads each name back."""
-        pictures = [picture_of(self.six, number) for number in range(MANY_NAMES)]
+        pictures = [picture_by(self.frame, number) for number in range(MANY_NAMES)]
         return Renaming([NAMES[pictures.index(pin)] for pin in range(MANY_IN_SIX)])
 
     @classmethod
@@ -89,20 +92,23 @@ def given_renaming(value, part):
     return value
 
 
-def led_row(six, row):
-    """The curve class to which the renaming of a six leads a curve class."""
-    pins = [CLASSES[number_of(name)] for name in six]
+def frame_of_six(numbers):
+    """The curve classes to which the renaming of a six leads (1, 0, .., 0) and those of p0 .. p5."""
+    pins = [CLASSES[number] for number in numbers]
     # It leads the plane class, which is three times (1, 0, .., 0) and the six
     # classes of p0 .. p5, to itself.
-    tripled = [sum(column) for column in zip(PLANE_CLASS, *pins)]
+    return [tuple([sum(column) // 3 for column in zip(PLANE_CLASS, *pins)])] + pins
+
+
+def led_by(frame, row):
+    """The curve class to which the renaming with this frame leads a curve class."""
     # A curve class is d times (1, 0, .., 0), less m times the class of each p.
-    scales = [row[0]] + [-number for number in row[1:]]
-    return mixed(scales, [[number // 3 for number in tripled]] + pins)
+    return mixed([row[0]] + [-number for number in row[1:]], frame)
 
 
-def picture_of(six, number):
-    """The number of the name to which the renaming of a six leads the name of this number."""
-    return number_of_class(led_row(six, CLASSES[number]))
+def picture_by(frame, number):
+    """The number of the name to which the renaming with this frame leads the name of this number."""
+    return number_of_class(led_by(frame, CLASSES[number]))
 
 
 def turned(root, number):

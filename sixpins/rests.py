@@ -1,12 +1,14 @@
 """Rests modulo a prime: rows, lines, places, and the lines on which a form is 0."""
 
 from sixpins.checks import is_integer, is_list, is_row
+from sixpins.cubics import slopes_at_row
 from sixpins.errors import BadNumber, BadRow, Misfit
 from sixpins.given import given_form, given_line
-from sixpins.integers import dot, leading_place, mixed
-from sixpins.powers import CUBIC_MONOMIALS, by_last_alone, parts_by_last, slopes_at, value_at, value_by_last
+from sixpins.integers import leading_place, mixed
+from sixpins.powers import CUBIC_MONOMIALS, by_last_alone, parts_by_last, value_by_last
 from sixpins.residues import all_places, pair_of_rests, reduced_by, rest_or_none
 from sixpins.rows import MOST_INTEGERS
+from sixpins.written import space_dot, space_slopes, space_value
 
 PRIMES = (2, 3, 5, 7, 11, 13, 17, 19, 23, 29, 31)
 MOST_FOR_PLACES = 13
@@ -47,8 +49,9 @@ def lines_modulo(form, prime):
     told = given_form(form, CUBIC_MONOMIALS, "form")
     given_prime(prime, MOST_FOR_LINES)
     left = reduced_by(told, prime)
-    zeros = [place for place in all_places(prime, 4) if value_at(left, 3, place) % prime == 0]
-    slopes = [slopes_at(left, 3, place) for place in zeros]
+    zeros = [place for place in all_places(prime, 4) if space_value(left, place) % prime == 0]
+    of_form = space_slopes(left)
+    slopes = [slopes_at_row(of_form, place) for place in zeros]
     lines = []
     for at, one in enumerate(zeros):
         # Rest rows ascend as their leading places descend.
@@ -81,4 +84,4 @@ def line_rest(one, other, prime):
 def is_zero_between(one, other, first, second, prime):
     """Whether a form that is 0 modulo a prime at two rows, with these slopes, is so with all four integers on them."""
     # At s one + t other, these are what stands with s s t and with s t t.
-    return dot(first, other) % prime == 0 and dot(second, one) % prime == 0
+    return space_dot(first, other) % prime == 0 and space_dot(second, one) % prime == 0

@@ -4,8 +4,6 @@ Within the package a name is told by its number, from 0 to 26, so that names
 ascend as their numbers do.
 """
 
-from sixpins.classes import times_crossed
-
 NAMES = ("p0", "p1", "p2", "p3", "p4", "p5",
          "j01", "j02", "j03", "j04", "j05", "j12", "j13", "j14", "j15", "j23", "j24", "j25", "j34", "j35", "j45",
          "c0", "c1", "c2", "c3", "c4", "c5")
@@ -20,7 +18,71 @@ CLASSES = ((0, -1, 0, 0, 0, 0, 0), (0, 0, -1, 0, 0, 0, 0), (0, 0, 0, -1, 0, 0, 0
            (2, 0, 1, 1, 1, 1, 1), (2, 1, 0, 1, 1, 1, 1), (2, 1, 1, 0, 1, 1, 1),
            (2, 1, 1, 1, 0, 1, 1), (2, 1, 1, 1, 1, 0, 1), (2, 1, 1, 1, 1, 1, 0))
 
-# Three names are a trio exactly if their classes add up to this one.
+# The number of each name, and that of the name with each curve class.
+NUMBERS = {"p0": 0, "p1": 1, "p2": 2, "p3": 3, "p4": 4, "p5": 5, "j01": 6, "j02": 7, "j03": 8, "j04": 9, "j05": 10,
+           "j12": 11, "j13": 12, "j14": 13, "j15": 14, "j23": 15, "j24": 16, "j25": 17, "j34": 18, "j35": 19,
+           "j45": 20, "c0": 21, "c1": 22, "c2": 23, "c3": 24, "c4": 25, "c5": 26}
+CLASS_NUMBERS = {(0, -1, 0, 0, 0, 0, 0): 0, (0, 0, -1, 0, 0, 0, 0): 1, (0, 0, 0, -1, 0, 0, 0): 2,
+                 (0, 0, 0, 0, -1, 0, 0): 3, (0, 0, 0, 0, 0, -1, 0): 4, (0, 0, 0, 0, 0, 0, -1): 5,
+                 (1, 1, 1, 0, 0, 0, 0): 6, (1, 1, 0, 1, 0, 0, 0): 7, (1, 1, 0, 0, 1, 0, 0): 8,
+                 (1, 1, 0, 0, 0, 1, 0): 9, (1, 1, 0, 0, 0, 0, 1): 10, (1, 0, 1, 1, 0, 0, 0): 11,
+                 (1, 0, 1, 0, 1, 0, 0): 12, (1, 0, 1, 0, 0, 1, 0): 13, (1, 0, 1, 0, 0, 0, 1): 14,
+                 (1, 0, 0, 1, 1, 0, 0): 15, (1, 0, 0, 1, 0, 1, 0): 16, (1, 0, 0, 1, 0, 0, 1): 17,
+                 (1, 0, 0, 0, 1, 1, 0): 18, (1, 0, 0, 0, 1, 0, 1): 19, (1, 0, 0, 0, 0, 1, 1): 20,
+                 (2, 0, 1, 1, 1, 1, 1): 21, (2, 1, 0, 1, 1, 1, 1): 22, (2, 1, 1, 0, 1, 1, 1): 23,
+                 (2, 1, 1, 1, 0, 1, 1): 24, (2, 1, 1, 1, 1, 0, 1): 25, (2, 1, 1, 1, 1, 1, 0): 26}
+
+# How often the classes of the names of two numbers meet.
+MEETS = ((-1, 0, 0, 0, 0, 0, 1, 1, 1, 1, 1, 0, 0, 0, 0, 0, 0, 0, 0, 0, 0, 0, 1, 1, 1, 1, 1),
+         (0, -1, 0, 0, 0, 0, 1, 0, 0, 0, 0, 1, 1, 1, 1, 0, 0, 0, 0, 0, 0, 1, 0, 1, 1, 1, 1),
+         (0, 0, -1, 0, 0, 0, 0, 1, 0, 0, 0, 1, 0, 0, 0, 1, 1, 1, 0, 0, 0, 1, 1, 0, 1, 1, 1),
+         (0, 0, 0, -1, 0, 0, 0, 0, 1, 0, 0, 0, 1, 0, 0, 1, 0, 0, 1, 1, 0, 1, 1, 1, 0, 1, 1),
+         (0, 0, 0, 0, -1, 0, 0, 0, 0, 1, 0, 0, 0, 1, 0, 0, 1, 0, 1, 0, 1, 1, 1, 1, 1, 0, 1),
+         (0, 0, 0, 0, 0, -1, 0, 0, 0, 0, 1, 0, 0, 0, 1, 0, 0, 1, 0, 1, 1, 1, 1, 1, 1, 1, 0),
+         (1, 1, 0, 0, 0, 0, -1, 0, 0, 0, 0, 0, 0, 0, 0, 1, 1, 1, 1, 1, 1, 1, 1, 0, 0, 0, 0),
+         (1, 0, 1, 0, 0, 0, 0, -1, 0, 0, 0, 0, 1, 1, 1, 0, 0, 0, 1, 1, 1, 1, 0, 1, 0, 0, 0),
+         (1, 0, 0, 1, 0, 0, 0, 0, -1, 0, 0, 1, 0, 1, 1, 0, 1, 1, 0, 0, 1, 1, 0, 0, 1, 0, 0),
+         (1, 0, 0, 0, 1, 0, 0, 0, 0, -1, 0, 1, 1, 0, 1, 1, 0, 1, 0, 1, 0, 1, 0, 0, 0, 1, 0),
+         (1, 0, 0, 0, 0, 1, 0, 0, 0, 0, -1, 1, 1, 1, 0, 1, 1, 0, 1, 0, 0, 1, 0, 0, 0, 0, 1),
+         (0, 1, 1, 0, 0, 0, 0, 0, 1, 1, 1, -1, 0, 0, 0, 0, 0, 0, 1, 1, 1, 0, 1, 1, 0, 0, 0),
+         (0, 1, 0, 1, 0, 0, 0, 1, 0, 1, 1, 0, -1, 0, 0, 0, 1, 1, 0, 0, 1, 0, 1, 0, 1, 0, 0),
+         (0, 1, 0, 0, 1, 0, 0, 1, 1, 0, 1, 0, 0, -1, 0, 1, 0, 1, 0, 1, 0, 0, 1, 0, 0, 1, 0),
+         (0, 1, 0, 0, 0, 1, 0, 1, 1, 1, 0, 0, 0, 0, -1, 1, 1, 0, 1, 0, 0, 0, 1, 0, 0, 0, 1),
+         (0, 0, 1, 1, 0, 0, 1, 0, 0, 1, 1, 0, 0, 1, 1, -1, 0, 0, 0, 0, 1, 0, 0, 1, 1, 0, 0),
+         (0, 0, 1, 0, 1, 0, 1, 0, 1, 0, 1, 0, 1, 0, 1, 0, -1, 0, 0, 1, 0, 0, 0, 1, 0, 1, 0),
+         (0, 0, 1, 0, 0, 1, 1, 0, 1, 1, 0, 0, 1, 1, 0, 0, 0, -1, 1, 0, 0, 0, 0, 1, 0, 0, 1),
+         (0, 0, 0, 1, 1, 0, 1, 1, 0, 0, 1, 1, 0, 0, 1, 0, 0, 1, -1, 0, 0, 0, 0, 0, 1, 1, 0),
+         (0, 0, 0, 1, 0, 1, 1, 1, 0, 1, 0, 1, 0, 1, 0, 0, 1, 0, 0, -1, 0, 0, 0, 0, 1, 0, 1),
+         (0, 0, 0, 0, 1, 1, 1, 1, 1, 0, 0, 1, 1, 0, 0, 1, 0, 0, 0, 0, -1, 0, 0, 0, 0, 1, 1),
+         (0, 1, 1, 1, 1, 1, 1, 1, 1, 1, 1, 0, 0, 0, 0, 0, 0, 0, 0, 0, 0, -1, 0, 0, 0, 0, 0),
+         (1, 0, 1, 1, 1, 1, 1, 0, 0, 0, 0, 1, 1, 1, 1, 0, 0, 0, 0, 0, 0, 0, -1, 0, 0, 0, 0),
+         (1, 1, 0, 1, 1, 1, 0, 1, 0, 0, 0, 1, 0, 0, 0, 1, 1, 1, 0, 0, 0, 0, 0, -1, 0, 0, 0),
+         (1, 1, 1, 0, 1, 1, 0, 0, 1, 0, 0, 0, 1, 0, 0, 1, 0, 0, 1, 1, 0, 0, 0, 0, -1, 0, 0),
+         (1, 1, 1, 1, 0, 1, 0, 0, 0, 1, 0, 0, 0, 1, 0, 0, 1, 0, 1, 0, 1, 0, 0, 0, 0, -1, 0),
+         (1, 1, 1, 1, 1, 0, 0, 0, 0, 0, 1, 0, 0, 0, 1, 0, 0, 1, 0, 1, 1, 0, 0, 0, 0, 0, -1))
+
+# For each number the five pairs that make up a trio with it, and all 45 trios, each ascending.
+PAIRS_BESIDE = (((6, 22), (7, 23), (8, 24), (9, 25), (10, 26)), ((6, 21), (11, 23), (12, 24), (13, 25), (14, 26)),
+                ((7, 21), (11, 22), (15, 24), (16, 25), (17, 26)), ((8, 21), (12, 22), (15, 23), (18, 25), (19, 26)),
+                ((9, 21), (13, 22), (16, 23), (18, 24), (20, 26)), ((10, 21), (14, 22), (17, 23), (19, 24), (20, 25)),
+                ((0, 22), (1, 21), (15, 20), (16, 19), (17, 18)), ((0, 23), (2, 21), (12, 20), (13, 19), (14, 18)),
+                ((0, 24), (3, 21), (11, 20), (13, 17), (14, 16)), ((0, 25), (4, 21), (11, 19), (12, 17), (14, 15)),
+                ((0, 26), (5, 21), (11, 18), (12, 16), (13, 15)), ((1, 23), (2, 22), (8, 20), (9, 19), (10, 18)),
+                ((1, 24), (3, 22), (7, 20), (9, 17), (10, 16)), ((1, 25), (4, 22), (7, 19), (8, 17), (10, 15)),
+                ((1, 26), (5, 22), (7, 18), (8, 16), (9, 15)), ((2, 24), (3, 23), (6, 20), (9, 14), (10, 13)),
+                ((2, 25), (4, 23), (6, 19), (8, 14), (10, 12)), ((2, 26), (5, 23), (6, 18), (8, 13), (9, 12)),
+                ((3, 25), (4, 24), (6, 17), (7, 14), (10, 11)), ((3, 26), (5, 24), (6, 16), (7, 13), (9, 11)),
+                ((4, 26), (5, 25), (6, 15), (7, 12), (8, 11)), ((1, 6), (2, 7), (3, 8), (4, 9), (5, 10)),
+                ((0, 6), (2, 11), (3, 12), (4, 13), (5, 14)), ((0, 7), (1, 11), (3, 15), (4, 16), (5, 17)),
+                ((0, 8), (1, 12), (2, 15), (4, 18), (5, 19)), ((0, 9), (1, 13), (2, 16), (3, 18), (5, 20)),
+                ((0, 10), (1, 14), (2, 17), (3, 19), (4, 20)))
+TRIOS = ((0, 6, 22), (0, 7, 23), (0, 8, 24), (0, 9, 25), (0, 10, 26), (1, 6, 21), (1, 11, 23), (1, 12, 24),
+         (1, 13, 25), (1, 14, 26), (2, 7, 21), (2, 11, 22), (2, 15, 24), (2, 16, 25), (2, 17, 26), (3, 8, 21),
+         (3, 12, 22), (3, 15, 23), (3, 18, 25), (3, 19, 26), (4, 9, 21), (4, 13, 22), (4, 16, 23), (4, 18, 24),
+         (4, 20, 26), (5, 10, 21), (5, 14, 22), (5, 17, 23), (5, 19, 24), (5, 20, 25), (6, 15, 20), (6, 16, 19),
+         (6, 17, 18), (7, 12, 20), (7, 13, 19), (7, 14, 18), (8, 11, 20), (8, 13, 17), (8, 14, 16), (9, 11, 19),
+         (9, 12, 17), (9, 14, 15), (10, 11, 18), (10, 12, 16), (10, 13, 15))
+
 PLANE_CLASS = (3, 1, 1, 1, 1, 1, 1)
 
 MANY_NAMES = 27
@@ -29,12 +91,12 @@ MANY_IN_SIX = 6
 
 def is_name(value):
     """Whether any value is a name."""
-    return isinstance(value, str) and value in NAMES
+    return isinstance(value, str) and value in NUMBERS
 
 
 def number_of(name):
     """The number of a name."""
-    return NAMES.index(name)
+    return NUMBERS[name]
 
 
 def names_of(numbers):
@@ -44,41 +106,12 @@ def names_of(numbers):
 
 def number_of_class(row):
     """The number of the name with this curve class, a tuple; None if there is none."""
-    return CLASSES.index(row) if row in CLASSES else None
+    return CLASS_NUMBERS.get(row)
 
 
 def met(one, other):
     """How often the classes of the names of two numbers meet."""
-    return times_crossed(CLASSES[one], CLASSES[other])
-
-
-def third_of_trio(one, other):
-    """The number of the name that makes up a trio with two names that meet."""
-    left = [whole - first - second
-            for whole, first, second in zip(PLANE_CLASS, CLASSES[one], CLASSES[other])]
-    return number_of_class(tuple(left))
-
-
-def pairs_beside(number):
-    """The ascending list of the five pairs of numbers that make up a trio with this one."""
-    told = []
-    for one in range(MANY_NAMES):
-        if met(number, one) == 1:
-            other = third_of_trio(number, one)
-            if one < other:
-                told.append((one, other))
-    return told
-
-
-def trios_with(number):
-    """The ascending list of the five trios of numbers with this one."""
-    return sorted([tuple(sorted((number,) + pair)) for pair in pairs_beside(number)])
-
-
-def all_trios_of_numbers():
-    """The ascending list of the 45 trios of numbers."""
-    return [(number,) + pair for number in range(MANY_NAMES)
-            for pair in pairs_beside(number) if number < pair[0]]
+    return MEETS[one][other]
 
 
 def is_trio(numbers):
@@ -90,17 +123,6 @@ def is_trio(numbers):
 def are_six(numbers):
     """Whether six numbers are those of a six."""
     return all([met(one, other) == 0 for at, one in enumerate(numbers) for other in numbers[at + 1:]])
-
-
-def sixes_from(chosen, free):
-    """The ascending list of the sixes that are the chosen numbers and further ones of the free ones."""
-    if len(chosen) == MANY_IN_SIX:
-        return [chosen]
-    told = []
-    for at, number in enumerate(free):
-        later = [other for other in free[at + 1:] if met(number, other) == 0]
-        told.extend(sixes_from(chosen + (number,), later))
-    return told
 
 
 def partner_of_numbers(six):
@@ -133,21 +155,3 @@ def ascending_way(rows):
     least_first = sorted(rows, key=min)
     columns = sorted(zip(*least_first))
     return tuple(sorted(zip(*columns)))
-
-
-def arrays_at(corner):
-    """The list of the arrays of numbers whose first way begins with this one."""
-    told = []
-    pairs = pairs_beside(corner)
-    for at, (right, far) in enumerate(pairs):
-        for down, deep in pairs[at + 1:]:
-            for middle in range(corner, MANY_NAMES):
-                if middle != corner and met(middle, right) == 1 and met(middle, down) == 1:
-                    told.append(filled((corner, right, far), down, deep, middle))
-    return [rows for rows in told if min([min(row) for row in rows]) == corner]
-
-
-def filled(top, down, deep, middle):
-    """The array with this first row, the first column below it, and the number in its middle."""
-    second = (down, middle, third_of_trio(down, middle))
-    return (top, second, (deep, third_of_trio(top[1], middle), third_of_trio(top[2], second[2])))

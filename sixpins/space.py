@@ -1,15 +1,17 @@
 """Space: places, planes, and the lines between them."""
 
 from sixpins.checks import is_list, is_plain
-from sixpins.echelon import basis_of, kernel_of
+from sixpins.echelon import kernel_of, pair_basis
 from sixpins.errors import Misfit
 from sixpins.given import given_line, given_row
 from sixpins.integers import dot, leading_place, mixed, plain_or_none
+from sixpins.written import space_crossing, space_dot
 
 
 def line_through(one, other):
     """The line of two unlike places."""
-    return basis_of(unlike_rows(one, other), 4)
+    first, second = unlike_rows(one, other)
+    return pair_basis(first, second)
 
 
 def line_of_planes(one, other):
@@ -42,7 +44,12 @@ def on_line(line, place):
 
 def is_on(line, place):
     """Whether a reduced line has a place, told by its plain row."""
-    return plain_or_none(mixed(shares_on(line, place), line)) == place
+    one, other = line
+    first, second = leading_place(one), leading_place(other)
+    # Up to this number the place can only be the sum of both rows that is as it at both leading places.
+    number = one[first] * other[second]
+    mine, its = place[first] * other[second], place[second] * one[first]
+    return all([mine * above + its * below == number * part for above, below, part in zip(one, other, place)])
 
 
 def shares_on(line, place):
@@ -66,7 +73,7 @@ def in_plane(line, plane):
 
 def within_plane(line, plane):
     """Whether a plane, told by its plain row, has all places of a reduced line."""
-    return all([dot(plane, place) == 0 for place in line])
+    return space_dot(plane, line[0]) == 0 and space_dot(plane, line[1]) == 0
 
 
 def meet(one, other):
@@ -93,7 +100,11 @@ def plane_of(one, other):
 
 def plane_of_lines(lines):
     """The plane of some lines that lie in one plane, reduced and not all alike."""
-    return kernel_of([place for line in lines for place in line], 4)[0]
+    first = lines[0]
+    further = [line for line in lines if line != first][0]
+    # One of both places of a further line, or each of them, is not on the first one.
+    planes = [plain_or_none(space_crossing(first[0], first[1], place)) for place in further]
+    return planes[1] if planes[0] is None else planes[0]
 
 
 def unlike_lines(one, other):

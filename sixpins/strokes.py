@@ -3,16 +3,17 @@
 from math import isqrt
 
 from sixpins.checks import is_integer, is_number, is_plain, is_within
-from sixpins.classes import BENT, line_class, threes_on
+from sixpins.classes import BENT, PAIRS, line_class, threes_on
 from sixpins.errors import BadNumber, Misfit, NoPins, NoStroke
 from sixpins.exact import number
 from sixpins.given import given_pin, given_row
-from sixpins.integers import ascending_choices, crossing, dot, mixed, plain, plain_or_none
+from sixpins.integers import crossing, dot, mixed, plain, plain_or_none
 from sixpins.papers import Denial, Paper
 from sixpins.pins import Pins, given_pins, judged_pins
-from sixpins.plane import seconds_at
-from sixpins.powers import slopes_at, value_at
+from sixpins.plane import curve_through
+from sixpins.powers import value_at
 from sixpins.surds import order_of
+from sixpins.written import plane_between, plane_dot, plane_squares
 
 
 class Goes(Paper):
@@ -177,16 +178,16 @@ def time_forms(pins, pin, to):
     """The pairs of a curve class and its time form, if the pin is pushed to a spot, ascending by the classes."""
     start = pins.spots[pin]
     step = mixed((1, -1), (to, start))
-    others = [other for other in range(6) if other != pin]
     told = []
-    for one, other in ascending_choices(0, 5, 2):
-        side = crossing(pins.spots[others[one]], pins.spots[others[other]])
-        form = plain_or_none((dot(side, step), dot(side, start)))
-        told.append((line_class((pin, others[one], others[other])), form or ()))
+    for one, other in PAIRS:
+        if pin not in (one, other):
+            side = crossing(pins.spots[one], pins.spots[other])
+            form = plain_or_none((plane_dot(side, step), plane_dot(side, start)))
+            told.append((line_class((pin, one, other)), form or ()))
     if all([pin in three for three in threes_on(pins.bars)]):
-        curve = seconds_at([pins.spots[other] for other in others])[0]
-        slopes = slopes_at(curve, 2, start)
-        told.append((BENT, plain((value_at(curve, 2, step), dot(slopes, step), value_at(curve, 2, start)))))
+        curve = curve_through(pins.spots[:pin] + pins.spots[pin + 1:])
+        values = (plane_squares(step), plane_between(step, start), plane_squares(start))
+        told.append((BENT, plain([dot(curve, its) for its in values])))
     return sorted(told)
 
 

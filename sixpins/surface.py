@@ -1,6 +1,7 @@
 """The surface of pins: the places to which spots are led, and what places come from."""
 
 from sixpins.checks import is_row
+from sixpins.cubics import on_two_by
 from sixpins.curves import curves
 from sixpins.drawing import lines_of_names, row_along, slopes_at_pins
 from sixpins.echelon import kernel_of
@@ -10,8 +11,8 @@ from sixpins.integers import crossing, dot, mixed, plain, plain_or_none
 from sixpins.making import form_of, matrix_of, relations_of
 from sixpins.papers import Denial, Paper
 from sixpins.pins import given_pins
-from sixpins.powers import form_on, value_at
 from sixpins.tables import image_of
+from sixpins.written import plane_cubes, space_slopes, space_value
 
 
 class Spot(Paper):
@@ -63,14 +64,16 @@ class Surface:
         self.relations = relations_of(self.curves)
         self.matrix = matrix_of(self.relations)
         self.form = form_of(self.curves, self.matrix, pins.curve)
-        # Not of the interface: what each question about lines begins with.
+        # Not of the interface: what each question about lines, or about slopes, begins with.
+        self.form_slopes = space_slopes(self.form)
         self.slopes = slopes_at_pins(pins, self.curves)
         self.lines = lines_of_names(pins, self.slopes)
 
     def place_of(self, spot):
         """The place to which a spot is led; None for a pin."""
         told = given_row(spot, 3, "spot")
-        return plain_or_none([value_at(curve, 3, told) for curve in self.curves])
+        powers = plane_cubes(told)
+        return plain_or_none([dot(curve, powers) for curve in self.curves])
 
     def place_at(self, pin, line):
         """The place to which a pin is led together with a line of the plane through it."""
@@ -110,7 +113,7 @@ class Surface:
             raise Misfit("one")
         if not is_zero_at(self.form, second) or first == second:
             raise Misfit("other")
-        numbers = form_on(self.form, 4, 3, (first, second))
+        numbers = on_two_by(self.form_slopes, first, second)
         return plain_or_none(mixed((numbers[2], -numbers[1]), (first, second)))
 
     def __eq__(self, other):
@@ -126,7 +129,7 @@ def given_surface(value):
 
 def is_zero_at(form, place):
     """Whether a form of third degree in space is 0 at a place."""
-    return value_at(form, 3, place) == 0
+    return space_value(form, place) == 0
 
 
 def line_behind(surface, pin, place):

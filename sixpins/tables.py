@@ -2,7 +2,8 @@
 
 from sixpins.errors import Misfit
 from sixpins.given import given_row, given_table
-from sixpins.integers import dot, leading_place, plain_or_none, plain_together
+from sixpins.integers import crossing, dot, leading_place, plain_or_none, plain_together
+from sixpins.written import space_crossing
 
 
 def led(table, row):
@@ -57,26 +58,25 @@ def plain_table_of(table):
 
 
 def determinant_of(table):
-    """The determinant of a table of one row or more."""
-    if len(table) == 1:
-        return table[0][0]
-    return dot(table[0], [cofactor(table, 0, place) for place in range(len(table))])
+    """The determinant of a table of two, three or four rows."""
+    return dot(table[0], crossings_of(table)[0])
 
 
-def cofactor(table, at, place):
-    """By what the determinant grows when the integer in this row, at this place, grows by one."""
-    left = [row[:place] + row[place + 1:] for row in table[:at] + table[at + 1:]]
-    if (at + place) % 2 == 0:
-        return determinant_of(left)
-    return -determinant_of(left)
-
-
-def adjoint_of(table):
-    """The table that, times this one, has the determinant at each corner and 0 elsewhere."""
-    many = len(table)
-    return tuple([tuple([cofactor(table, place, at) for place in range(many)]) for at in range(many)])
+def crossings_of(table):
+    """For each row of a table the row that, times it, is the determinant, and 0 times each other one."""
+    if len(table) == 2:
+        (a, b), (c, d) = table
+        return (d, -c), (-b, a)
+    if len(table) == 3:
+        one, other, third = table
+        return crossing(other, third), crossing(third, one), crossing(one, other)
+    one, other, third, last = table
+    # Two rows exchanged give the determinant the other sign.
+    return (space_crossing(other, third, last), space_crossing(third, one, last),
+            space_crossing(one, other, last), space_crossing(other, one, third))
 
 
 def inverse_of(table):
     """The plain table that leads back what the table led; its determinant is not 0."""
-    return plain_table_of(adjoint_of(table))
+    rows = crossings_of(table)
+    return plain_table_of(tuple(zip(*rows)))

@@ -1,11 +1,11 @@
 """A surface as three planes less three planes, told by arrays."""
 
-from sixpins.echelon import kernel_of
+from sixpins.integers import crossing, plain
 from sixpins.names import given_array
 from sixpins.papers import Denial, Paper
-from sixpins.powers import product_of_firsts
 from sixpins.space import plane_of_lines
 from sixpins.surface import given_surface
+from sixpins.written import triple_product
 
 
 class Way(Paper):
@@ -37,7 +37,13 @@ def way_of(surface, array):
     second = [plane_of_lines(column) for column in zip(*lines)]
     if sorted(first) == sorted(second):
         return Alike(sorted(first))
-    parts = (told.form, product_of_firsts(first), product_of_firsts(second))
-    # Just one row, up to a number, adds the three forms up to zeros.
-    scale, less, further = kernel_of(list(zip(*parts)), 3)[0]
+    products = (triple_product(first[0], first[1], first[2]), triple_product(second[0], second[1], second[2]))
+    scale, less, further = adding_up(told.form, products[0], products[1])
     return Way(first, second, scale, -less, -further)
+
+
+def adding_up(one, other, third):
+    """The plain row by which three forms add up to zeros; no two of them are numbers times one another."""
+    rows = [row for row in zip(one, other, third) if row != (0, 0, 0)]
+    told = [crossing(rows[0], row) for row in rows[1:]]
+    return plain([row for row in told if row != (0, 0, 0)][0])

@@ -4,7 +4,7 @@ from sixpins.checks import is_list
 from sixpins.classes import times_crossed
 from sixpins.errors import BadText
 from sixpins.integers import leading_place, mixed
-from sixpins.renamings import Renaming, given_renaming, led_row, turned
+from sixpins.renamings import Renaming, given_renaming, led_by, turned
 from sixpins.roster import MANY_IN_SIX, MANY_NAMES, names_of
 
 # Each letter stands for the turn at its root: the first five exchange two neighbouring pins.
@@ -15,8 +15,8 @@ ROOTS = ((0, -1, 1, 0, 0, 0, 0), (0, 0, -1, 1, 0, 0, 0), (0, 0, 0, -1, 1, 0, 0),
 
 def word_of(renaming):
     """A word that says the renaming, with as few letters as can be."""
-    six = given_renaming(renaming, "renaming").six
-    pictures = [led_row(six, root) for root in ROOTS]
+    frame = given_renaming(renaming, "renaming").frame
+    pictures = [led_by(frame, root) for root in ROOTS]
     word = []
     at = first_negative(pictures)
     while at is not None:

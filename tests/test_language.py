@@ -192,7 +192,8 @@ class LanguageTest(unittest.TestCase):
             with self.subTest(where):
                 if isinstance(node.ops[0], (ast.Is, ast.IsNot)):
                     right = node.comparators[0]
-                    self.assertTrue(isinstance(right, ast.Constant) or called(right) == "type")
+                    of_class = called(node.left) == "type" and (called(right) or getattr(right, "id", None))
+                    self.assertTrue(isinstance(right, ast.Constant) or of_class in ("type", "int"))
 
     def test_sets_stand_in_len_and_sorted_alone(self):
         names = {where for where, node in each(ast.Name) if node.id == "set"}
