@@ -1,8 +1,8 @@
 """Forms of third degree in space along lines and planes, without any checks."""
 
-from sixpins.integers import crossing, dot, leading_place, plain
-from sixpins.written import (pair_product, plane_product, plane_second_product, space_between, space_dot,
-                             space_squares)
+from sixpins.integers import crossing, leading_place, plain
+from sixpins.written import (pair_product, plane_dot, plane_product, plane_second_product, space_between, space_dot,
+                             space_second_dot, space_squares)
 
 # The places of the monomials of second degree in which letter k and letter l stand.
 TWO_LETTERS = ((0, 1, 2, 3), (1, 4, 5, 6), (2, 5, 7, 8), (3, 6, 8, 9))
@@ -21,7 +21,7 @@ POWERS = (((10, 11, 12, 13, 14, 15, 16, 17, 18, 19), (4, 5, 6, 7, 8, 9), (1, 2, 
 def slopes_at_row(slopes, row):
     """The values of four forms of second degree in space at a row."""
     squares = space_squares(row)
-    return [dot(slope, squares) for slope in slopes]
+    return [space_second_dot(slope, squares) for slope in slopes]
 
 
 def on_two_by(slopes, one, other):
@@ -47,7 +47,7 @@ def common_by(slopes, line):
     """The form of greatest degree that divides all of these slopes along a line, plain; () if all are 0 on it."""
     one, other = line
     values = (space_squares(one), space_between(one, other), space_squares(other))
-    forms = [[dot(slope, its) for its in values] for slope in slopes]
+    forms = [[space_second_dot(slope, its) for its in values] for slope in slopes]
     told = [form for form in forms if leading_place(form) is not None]
     if not told:
         return ()
@@ -74,7 +74,7 @@ def common_of(forms, row):
     """The common form of some forms of second degree in s and t; the row is orthogonal to two unlike ones of them."""
     # If they are 0 at one (s, t), then ss, st, tt are a number times this row.
     squared, between, further = row
-    if squared * further != between * between or any([dot(row, form) != 0 for form in forms]):
+    if squared * further != between * between or any([plane_dot(row, form) != 0 for form in forms]):
         return (1,)
     return factor_at((squared, between) if squared != 0 else (0, 1))
 
@@ -91,7 +91,8 @@ def fifth_by(form, slopes, line, free):
     ahead, between, behind = space_squares(one), space_between(one, other), space_squares(other)
     # With s s, s t, t t stand forms in u and v of first degree, with s, with t
     # and alone others of second and third degree, each times w.
-    ss, st, tt = [[dot(slopes[left], values), dot(slopes[right], values)] for values in (ahead, between, behind)]
+    ss, st, tt = [[space_second_dot(slopes[place], values) for place in free]
+                  for values in (ahead, between, behind)]
     places = (TWO_LETTERS[left][left], TWO_LETTERS[left][right], TWO_LETTERS[right][right])
     s, t = [[space_dot([slope[place] for slope in slopes], row) for place in places] for row in line]
     alone = [form[RAISED[places[0]][left]]] + [form[RAISED[place][right]] for place in places]

@@ -3,17 +3,22 @@
 from sixpins.classes import pins_with
 from sixpins.echelon import pair_basis
 from sixpins.falls import all_fallen
-from sixpins.integers import crossing, dot, leading_place
+from sixpins.integers import crossing, leading_place
 from sixpins.plane import spot_touching
 from sixpins.roster import CLASSES, MANY_IN_SIX
-from sixpins.written import plane_dot, plane_slopes, plane_squares
+from sixpins.written import plane_dot, plane_second_dot, plane_slopes, plane_squares
 
 
 def slopes_at_pins(pins, curves):
     """For each pin and each of the four curves its slopes there: a table of four rows of three for each pin."""
     slopes = [plane_slopes(curve) for curve in curves]
     squares = [plane_squares(spot) for spot in pins.spots]
-    return tuple([tuple([tuple([dot(slope, values) for slope in its]) for its in slopes]) for values in squares])
+    return tuple([tuple([slopes_by(its, values) for its in slopes]) for values in squares])
+
+
+def slopes_by(slopes, squares):
+    """The slopes of a curve at a spot, by its forms and the values of the monomials of second degree there."""
+    return tuple([plane_second_dot(slope, squares) for slope in slopes])
 
 
 def row_towards(slopes, pin, spot):

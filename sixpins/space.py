@@ -4,7 +4,7 @@ from sixpins.checks import is_list, is_plain
 from sixpins.echelon import kernel_of, pair_basis
 from sixpins.errors import Misfit
 from sixpins.given import given_line, given_row
-from sixpins.integers import dot, leading_place, mixed, plain_or_none
+from sixpins.integers import dot, leading_place, mixed, plain, plain_or_none
 from sixpins.written import space_crossing, space_dot
 
 
@@ -102,9 +102,11 @@ def plane_of_lines(lines):
     """The plane of some lines that lie in one plane, reduced and not all alike."""
     first = lines[0]
     further = [line for line in lines if line != first][0]
-    # One of both places of a further line, or each of them, is not on the first one.
-    planes = [plain_or_none(space_crossing(first[0], first[1], place)) for place in further]
-    return planes[1] if planes[0] is None else planes[0]
+    row = space_crossing(first[0], first[1], further[0])
+    if leading_place(row) is None:
+        # The first place of the further line is on the first one; then the second place is not.
+        row = space_crossing(first[0], first[1], further[1])
+    return plain(row)
 
 
 def unlike_lines(one, other):

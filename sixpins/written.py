@@ -16,6 +16,18 @@ def space_dot(one, other):
     return one[0] * other[0] + one[1] * other[1] + one[2] * other[2] + one[3] * other[3]
 
 
+def plane_second_dot(one, other):
+    """The sum of the products of two rows of six, place by place."""
+    return (one[0] * other[0] + one[1] * other[1] + one[2] * other[2] + one[3] * other[3] + one[4] * other[4]
+            + one[5] * other[5])
+
+
+def space_second_dot(one, other):
+    """The sum of the products of two rows of ten, place by place."""
+    return (one[0] * other[0] + one[1] * other[1] + one[2] * other[2] + one[3] * other[3] + one[4] * other[4]
+            + one[5] * other[5] + one[6] * other[6] + one[7] * other[7] + one[8] * other[8] + one[9] * other[9])
+
+
 def plane_squares(spot):
     """The values of the monomials of second degree at a row of three."""
     x, y, z = spot
