@@ -8,7 +8,6 @@ from sixpins.changes import (Flat, Lifted, NoFlat, Settled, Unlike, changed_form
 from sixpins.errors import BadForm, BadPins, BadRow, BadTable
 from sixpins.lines import line_of
 from sixpins.names import all_names
-from sixpins.papers import Denial, Paper
 from sixpins.pins import Pins
 from sixpins.space import line_through
 from sixpins.surface import Surface
@@ -369,22 +368,7 @@ class LedLineTest(Case):
         self.same(led_line(line=line, change=unit(4)), line)
 
 
-class PapersTest(Case):
-
-    def test_words_and_parts(self):
-        for made, denies, fields in ((Settled, False, {"pins": [1], "change": [[2]]}), (Flat, False, {"change": [[1, 2]]}),
-                                     (Lifted, False, {"pins": None, "change": [[1], 2]}), (Unlike, True, {"three": [0, 1, 2]}),
-                                     (NoFlat, True, {"pin": 3, "one": [1, [2]], "other": (1, 2)})):
-            paper = made(*fields.values())
-            self.assertEqual(paper.word, made.__name__.lower())
-            self.assertIs(bool(paper), not denies)
-            self.assertIs(isinstance(paper, Denial), denies)
-            self.assertIsInstance(paper, Paper)
-            self.assertEqual(made(**fields), paper)
-            for name, value in fields.items():
-                self.assertNotIsInstance(getattr(paper, name), list)
-                self.assertEqual(listed(getattr(paper, name)), listed(value))
-            self.assertEqual(list(listed(paper.parts)), [listed(value) for value in fields.values()])
+class FactsTest(Case):
 
     def test_facts(self):
         # There is always a frame; pins led to one another have the same threes in a line.

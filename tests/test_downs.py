@@ -10,13 +10,12 @@ from sixpins.falls import is_standing, standing_names
 from sixpins.forms import slope_of
 from sixpins.lines import line_of
 from sixpins.names import all_names, all_sixes
-from sixpins.papers import Denial, Paper
 from sixpins.pins import Pins
 from sixpins.renamings import Renaming, pins_swapped, pins_turned, six_exchanged
 from sixpins.surface import Surface
 from sixpins.tables import multiplied, plain_table, undone
 from tests.samples import CORNERS, NO_OBJECTS, NO_SURFACES, PLAINEST, SURFACES, drawn_pins, shuffled
-from tests.support import Case, Source, dotted, listed, plain_by_hand, value_by_hand
+from tests.support import Case, Source, dotted, plain_by_hand, value_by_hand
 from tests.test_changes import FRAME, frame_by_hand, plain_by_hand_table
 from tests.test_names import CLASSES
 from tests.test_pins import CASES
@@ -297,21 +296,7 @@ class MoveTest(Case):
                 self.assertEqual(self.check(one, renaming).word, self.check(other, renaming).word)
 
 
-class PapersTest(Case):
-
-    def test_words_and_parts(self):
-        for made, denies, fields in ((Down, False, {"pins": [1], "degree": 2, "forms": [[1], [2]], "change": [[3]]}),
-                                     (Move, False, {"change": [[1, 2]]}), (Fallen, True, {"name": ["c0"]})):
-            paper = made(*fields.values())
-            self.assertEqual(paper.word, made.__name__.lower())
-            self.assertIs(bool(paper), not denies)
-            self.assertIs(isinstance(paper, Denial), denies)
-            self.assertIsInstance(paper, Paper)
-            self.assertEqual(made(**fields), paper)
-            for name, value in fields.items():
-                self.assertNotIsInstance(getattr(paper, name), list)
-                self.assertEqual(listed(getattr(paper, name)), listed(value))
-            self.assertEqual(listed(paper.parts), [listed(value) for value in fields.values()])
+class FactsTest(Case):
 
     def test_degrees(self):
         # The degree by how often the names of the six go through the pins, over all sixes.

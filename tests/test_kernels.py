@@ -5,7 +5,7 @@ import unittest
 
 from sixpins.errors import BadNumber, BadRow
 from sixpins.kernels import kernel, rank, reduced
-from tests.support import Case, ODD, ODD_INTEGERS, Source, dotted, is_reduced, listed, reduced_by_hand
+from tests.support import Case, ODD, ODD_INTEGERS, Source, dotted, is_reduced, reduced_by_hand
 
 ALL = (reduced, kernel, rank)
 

@@ -10,7 +10,6 @@ from sixpins.lines import line_of, names_on
 from sixpins.matrices import (Across, Carried, Matrix, OnCurve, carried_matrix, determinant_form, judged_matrix, left_spot,
                               matrix_at, right_spot, told_across)
 from sixpins.names import all_names, all_sixes
-from sixpins.papers import Denial, Paper
 from sixpins.peaks import told_peaks
 from sixpins.pins import Pins
 from sixpins.renamings import Renaming
@@ -339,21 +338,7 @@ class CarriedTest(Case):
             self.refused(BadRenaming, "renaming", carried_matrix, CORNERS, value)
 
 
-class PapersTest(Case):
-
-    def test_words_and_parts(self):
-        for made, denies, fields in ((Matrix, False, {"scale": [5]}), (Carried, False, {"matrix": [[1], [2]], "scale": 2}),
-                                     (Across, False, {"names": ["p0"], "pins": [None], "change": [[1]]}),
-                                     (OnCurve, True, {"curve": [0, 1]})):
-            paper = made(*fields.values())
-            self.assertEqual(paper.word, made.__name__.lower())
-            self.assertIs(bool(paper), not denies)
-            self.assertIs(isinstance(paper, Denial), denies)
-            self.assertIsInstance(paper, Paper)
-            self.assertEqual(made(**fields), paper)
-            for name, value in fields.items():
-                self.assertNotIsInstance(getattr(paper, name), list)
-                self.assertEqual(listed(getattr(paper, name)), listed(value))
+class FactsTest(Case):
 
     def test_six_across_without_bars(self):
         self.same(told_across(PLAINEST).names, all_names()[21:])

@@ -1,7 +1,6 @@
 """Spots, lines of the plane, and forms of second degree."""
 
 import unittest
-from itertools import combinations
 
 from sixpins.errors import BadRow, Misfit
 from sixpins.plane import crossed, in_line, joined, seconds

@@ -244,22 +244,5 @@ class ShowsTest(Case):
         self.assertIs(shows_prime(value=Clash(other=4, one=0), prime=2, pins=EXTRA), True)
 
 
-class PapersTest(Case):
-
-    def test_words_and_parts(self):
-        for made, denies, fields in ((Good, False, {"places": [41]}), (Clash, True, {"one": 0, "other": [4]}),
-                                     (Crowd, True, {"four": [0, 1, [2]]}), (Extra, True, {"bar": [1, 0]}),
-                                     (Thin, True, {"row": [1, 2]})):
-            paper = made(*fields.values())
-            self.assertEqual(paper.word, made.__name__.lower())
-            self.assertIs(bool(paper), not denies)
-            self.assertIs(isinstance(paper, Denial), denies)
-            self.assertIsInstance(paper, Paper)
-            self.assertEqual(made(**fields), paper)
-            for name, value in fields.items():
-                self.assertNotIsInstance(getattr(paper, name), list)
-                self.assertEqual(listed(getattr(paper, name)), listed(value))
-
-
 if __name__ == "__main__":
     unittest.main()
